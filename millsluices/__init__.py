@@ -1,0 +1,1 @@
+"""Millsluices: mills that never stop."""

@@ -1,0 +1,162 @@
+"""Points 2 to 5 for every function: by place and by name, lists and tuples, repeated numbers, nothing changed."""
+
+import copy
+import inspect
+import random
+import unittest
+
+from millsluices import lots, running, seasons, settings, sureness, tightness, valleys, walks
+from millsluices.errors import NothingRuns, NotRunning
+from millsluices.seasons import Season
+from millsluices.valleys import Valley
+from plain import as_lists, only_tuples
+
+RING = Valley.ring(3)
+LOW = Season(RING, needs=[1, 1, 0])
+FULL = Season(RING, needs=[1, 1, 1])
+ZERO, ONE, UP = (0, 0, 0), (1, 1, 1), (0, 0, 1)
+
+# Each row has what is called, its arguments in their order by name, and those of them that are sets.
+CALLS = [
+    (valleys.Valley, {"mills": 3, "sluices": ((0, 1), (1, 2))}, ()),
+    (RING.touching, {"mill": 1}, ()),
+    (RING.other, {"sluice": 1, "mill": 1}, ()),
+    (RING.built, {"pairs": ((0, 1), (2, 1))}, ()),
+    (RING.without, {"sluices": (0, 2)}, ("sluices",)),
+    (Valley.ring, {"mills": 4}, ()),
+    (Valley.row, {"mills": 4}, ()),
+    (settings.feeds, {"valley": RING, "setting": UP, "sluice": 2}, ()),
+    (settings.fed, {"valley": RING, "setting": UP}, ()),
+    (settings.turned, {"setting": UP, "turns": (2, 0, 2)}, ()),
+    (settings.differing, {"one": UP, "two": ONE}, ()),
+    (settings.settings, {"valley": RING}, ()),
+    (settings.is_setting, {"valley": RING, "value": UP}, ()),
+    (LOW.out, {"setting": (0, 1, 1)}, ()),
+    (FULL.pinned((0, 0, 0), (0, 1)).strayed, {"setting": ONE}, ()),
+    (LOW.pinned, {"setting": UP, "sluices": (0, 2)}, ("sluices",)),
+    (LOW.pinned(UP, (0, 1, 2)).freed, {"sluices": (0, 2)}, ("sluices",)),
+    (FULL.resting, {"lot": (0, 2)}, ("lot",)),
+    (FULL.loosened, {"lowered": (0, 0, 2), "raised": (1,)}, ()),
+    (FULL.built, {"pairs": ((0, 1), (2, 1))}, ()),
+    (FULL.without, {"sluices": (0, 2)}, ("sluices",)),
+    (Season.only, {"valley": RING, "setting": UP}, ()),
+    (lots.gain, {"season": LOW, "lot": (0, 2)}, ("lot",)),
+    (lots.load, {"season": LOW, "lot": (0, 2)}, ("lot",)),
+    (lots.want, {"season": LOW, "lot": (0, 2)}, ("lot",)),
+    (lots.bear, {"season": Season(RING, limits=(1, 2, 3)), "lot": (0, 2)}, ("lot",)),
+    (lots.is_obstacle, {"season": Season(RING, needs=(2, 2, 0)), "value": ("wants", (0, 1))}, ()),
+    (running.obstacle, {"season": Season(RING, needs=(2, 2, 0))}, ()),
+    (running.first_running, {"season": LOW}, ()),
+    (running.running, {"season": LOW}, ()),
+    (running.running_count, {"season": LOW}, ()),
+    (tightness.greatest_tight_below, {"season": FULL}, ()),
+    (tightness.greatest_tight_above, {"season": FULL}, ()),
+    (tightness.least_tight_below, {"season": FULL, "mill": 1}, ()),
+    (tightness.least_tight_above, {"season": FULL, "mill": 1}, ()),
+    (sureness.sure_sides, {"season": LOW}, ()),
+    (sureness.fed_range, {"season": LOW, "mill": 1}, ()),
+    (sureness.tightened, {"season": LOW}, ()),
+    (sureness.parting, {"one": LOW, "two": FULL}, ()),
+    (sureness.same_running, {"one": LOW, "two": FULL}, ()),
+    (walks.is_walk, {"season": LOW, "setting": ZERO, "turns": (2, 0)}, ()),
+    (walks.follow, {"season": LOW, "setting": ZERO, "turns": (2, 0)}, ()),
+    (walks.turnable, {"season": LOW, "setting": UP}, ()),
+]
+
+
+def outcome(call, *args, **named):
+    """What the call returns, in a form that can be compared: of generators all items, of objects the fields."""
+    found = call(*args, **named)
+    if inspect.isgenerator(found):
+        return tuple(found)
+    if isinstance(found, Season):
+        return found.valley.mills, found.valley.sluices, found.needs, found.limits, found.sides
+    if isinstance(found, Valley):
+        return found.mills, found.sluices
+    return tuple(sorted(vars(found).items())) if hasattr(found, "__dict__") else found
+
+
+def listed(named):
+    return {name: as_lists(value) for name, value in named.items()}
+
+
+class CallsTest(unittest.TestCase):
+    def test_by_place_and_by_name(self):
+        for call, named, _ in CALLS:
+            with self.subTest(call):
+                self.assertEqual(outcome(call, *named.values()), outcome(call, **named))
+
+    def test_tuples_at_every_level_are_returned(self):
+        for call, named, _ in CALLS:
+            with self.subTest(call):
+                self.assertTrue(only_tuples(outcome(call, **named)))
+                self.assertTrue(only_tuples(outcome(call, **listed(named))))
+
+    def test_lists_count_like_tuples(self):
+        for call, named, _ in CALLS:
+            with self.subTest(call):
+                self.assertEqual(outcome(call, **listed(named)), outcome(call, **named))
+
+    def test_arguments_are_left_as_they_were(self):
+        for call, named, _ in CALLS:
+            passed = listed(named)
+            before = copy.deepcopy(passed)
+            outcome(call, **passed)
+            with self.subTest(call):
+                self.assertEqual(passed, before)
+
+    def test_numbers_of_sets_in_any_order_and_repeated(self):
+        rng = random.Random(1)
+        for call, named, sets in CALLS:
+            for name in sets:
+                mixed = [*named[name], *named[name], named[name][0]]
+                rng.shuffle(mixed)
+                with self.subTest(call):
+                    self.assertEqual(outcome(call, **{**named, name: mixed}), outcome(call, **named))
+
+    def test_the_same_question_again_gives_the_same_answer(self):
+        for call, named, _ in CALLS:
+            with self.subTest(call):
+                self.assertEqual(outcome(call, **named), outcome(call, **named))
+
+    def test_what_was_returned_is_not_changed_by_later_changes_of_arguments(self):
+        for call, named, _ in CALLS:
+            passed = listed(named)
+            found = call(**passed)
+            if not inspect.isgenerator(found):
+                before = outcome(lambda: found)
+                for value in passed.values():
+                    if isinstance(value, list):
+                        value.append(value.pop(0))
+                        value.append(0)
+                with self.subTest(call):
+                    self.assertEqual(outcome(lambda: found), before)
+
+    def test_narrowed(self):
+        self.assertEqual(seasons.narrowed(first=LOW), LOW)
+        self.assertEqual(seasons.narrowed(LOW, FULL, LOW), FULL)
+
+
+class ErrorFieldsTest(unittest.TestCase):
+    def test_settings_in_errors_are_tuples(self):
+        for call, named, _ in CALLS:
+            names = [name for name in ("setting", "one", "goal") if named.get(name) in (ZERO, UP)]
+            if "season" in named and names:
+                passed = {**listed(named), names[0]: [0, 1, 1]}
+                try:
+                    outcome(call, **passed)
+                except NotRunning as error:
+                    with self.subTest(call):
+                        self.assertEqual(error.setting, (0, 1, 1))
+                        self.assertTrue(only_tuples(error.setting))
+
+    def test_errors_change_nothing(self):
+        season = Season(RING, needs=[2, 2, 0])
+        for call in (tightness.greatest_tight_below, sureness.sure_sides, sureness.tightened):
+            with self.assertRaises(NothingRuns):
+                call(season)
+            self.assertEqual(season, Season(RING, needs=[2, 2, 0]))
+
+
+if __name__ == "__main__":
+    unittest.main()
