@@ -5,7 +5,8 @@ import inspect
 import random
 import unittest
 
-from millsluices import lots, running, seasons, settings, sureness, tightness, valleys, walks
+from millsluices import (blockades, classes, connections, detours, distances, lots, orders, rests, running, seasons,
+                         settings, shortest, stuckness, sureness, tightness, unity, valleys, walks)
 from millsluices.errors import NothingRuns, NotRunning
 from millsluices.seasons import Season
 from millsluices.valleys import Valley
@@ -14,7 +15,9 @@ from plain import as_lists, only_tuples
 RING = Valley.ring(3)
 LOW = Season(RING, needs=[1, 1, 0])
 FULL = Season(RING, needs=[1, 1, 1])
+SIDE = Season(Valley(3, ((1, 2), (1, 2), (0, 1))), needs=(0, 1, 1))
 ZERO, ONE, UP = (0, 0, 0), (1, 1, 1), (0, 0, 1)
+TABLE = ((ZERO, 0), (UP, 5), ((1, 0, 1), 6), (ONE, 7))
 
 # Each row has what is called, its arguments in their order by name, and those of them that are sets.
 CALLS = [
@@ -61,6 +64,38 @@ CALLS = [
     (walks.is_walk, {"season": LOW, "setting": ZERO, "turns": (2, 0)}, ()),
     (walks.follow, {"season": LOW, "setting": ZERO, "turns": (2, 0)}, ()),
     (walks.turnable, {"season": LOW, "setting": UP}, ()),
+    (stuckness.starved, {"season": FULL, "setting": ZERO}, ()),
+    (stuckness.saturated, {"season": FULL, "setting": ZERO}, ()),
+    (stuckness.stuck, {"season": FULL, "setting": ZERO}, ()),
+    (stuckness.loose, {"season": LOW, "setting": ZERO}, ()),
+    (connections.connect, {"season": LOW, "one": ZERO, "two": ONE}, ()),
+    (connections.connect, {"season": FULL, "one": ZERO, "two": ONE}, ()),
+    (blockades.is_blockade, {"season": FULL, "setting": ZERO, "low": (0, 1, 2), "high": ()}, ("low",)),
+    (blockades.is_blockade, {"season": Season(RING, limits=(1, 1, 1)), "setting": ZERO, "low": (), "high": (0, 1, 2)},
+     ("high",)),
+    (blockades.blocked_by, {"season": Season(RING), "low": (0,), "high": (1,)}, ("low", "high")),
+    (classes.class_key, {"season": FULL, "setting": ONE}, ()),
+    (classes.class_season, {"season": FULL, "setting": ONE}, ()),
+    (classes.first_in_class, {"season": LOW, "setting": ONE}, ()),
+    (classes.class_size, {"season": LOW, "setting": ZERO}, ()),
+    (classes.classes, {"season": FULL}, ()),
+    (unity.unity, {"season": FULL}, ()),
+    (unity.unity, {"season": LOW}, ()),
+    (orders.any_order, {"season": LOW, "setting": UP, "sluices": (0, 2)}, ("sluices",)),
+    (orders.bad_order, {"season": LOW, "setting": ZERO, "sluices": (0, 1, 2)}, ("sluices",)),
+    (orders.some_order, {"season": LOW, "setting": ZERO, "sluices": (0, 1, 2)}, ("sluices",)),
+    (distances.distance, {"season": LOW, "one": ZERO, "two": ONE, "prices": (1, 2, 3)}, ()),
+    (distances.distances, {"season": LOW, "goal": ZERO, "prices": (1, 1, 5)}, ()),
+    (distances.is_distance_table, {"season": LOW, "goal": ZERO, "table": TABLE, "prices": (1, 1, 5)}, ()),
+    (distances.within, {"season": LOW, "setting": ZERO, "turns": 2}, ()),
+    (distances.farthest, {"season": LOW, "setting": ZERO}, ()),
+    (detours.least_detour, {"season": SIDE, "one": (0, 1, 0), "two": (1, 0, 0), "prices": (1, 2, 3)}, ()),
+    (detours.is_detour, {"season": SIDE, "one": (0, 1, 0), "two": (1, 0, 0), "sluices": (2,)}, ("sluices",)),
+    (shortest.shortest_walk, {"season": SIDE, "one": (0, 1, 0), "two": (1, 0, 0), "prices": (1, 2, 3)}, ()),
+    (shortest.walk_count, {"season": SIDE, "one": (0, 1, 0), "two": (1, 0, 0)}, ()),
+    (rests.least_rests, {"season": FULL, "one": ZERO, "two": ONE}, ()),
+    (rests.fewest_rests, {"season": FULL, "one": ZERO, "two": ONE}, ()),
+    (rests.must_rest, {"season": FULL, "one": ZERO, "two": ONE}, ()),
 ]
 
 
@@ -83,8 +118,16 @@ def listed(named):
 class CallsTest(unittest.TestCase):
     def test_by_place_and_by_name(self):
         for call, named, _ in CALLS:
+            placed = [value for name, value in named.items() if name != "prices"]
+            keyed = {name: value for name, value in named.items() if name == "prices"}
             with self.subTest(call):
-                self.assertEqual(outcome(call, *named.values()), outcome(call, **named))
+                self.assertEqual(outcome(call, *placed, **keyed), outcome(call, **named))
+
+    def test_prices_are_passed_by_name_alone(self):
+        for call, named, _ in CALLS:
+            if "prices" in named:
+                with self.subTest(call), self.assertRaises(TypeError):
+                    call(*named.values())
 
     def test_tuples_at_every_level_are_returned(self):
         for call, named, _ in CALLS:
@@ -127,7 +170,7 @@ class CallsTest(unittest.TestCase):
                 before = outcome(lambda: found)
                 for value in passed.values():
                     if isinstance(value, list):
-                        value.append(value.pop(0))
+                        value.reverse()
                         value.append(0)
                 with self.subTest(call):
                     self.assertEqual(outcome(lambda: found), before)

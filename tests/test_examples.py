@@ -2,11 +2,19 @@
 
 import unittest
 
+from millsluices.classes import class_key, classes
+from millsluices.connections import connect
+from millsluices.detours import least_detour
+from millsluices.distances import distances
 from millsluices.errors import BadWalk
 from millsluices.lots import gain, load
+from millsluices.orders import bad_order, some_order
+from millsluices.rests import fewest_rests, least_rests, must_rest
 from millsluices.running import obstacle, running
 from millsluices.seasons import Season
 from millsluices.settings import fed, turned
+from millsluices.shortest import shortest_walk
+from millsluices.stuckness import loose, starved, stuck
 from millsluices.sureness import sure_sides, tightened
 from millsluices.tightness import greatest_tight_below
 from millsluices.valleys import Valley
@@ -17,6 +25,7 @@ class ExamplesTest(unittest.TestCase):
     ring = Valley.ring(3)
     season = Season(ring, needs=[1, 1, 1])
     low = Season(ring, needs=[1, 1, 0])
+    side = Season(Valley(3, [(1, 2), (1, 2), (0, 1)]), needs=[0, 1, 1])
 
     def test_valleys(self):
         self.assertEqual(self.ring.sluices, ((0, 1), (1, 2), (2, 0)))
@@ -53,6 +62,37 @@ class ExamplesTest(unittest.TestCase):
         with self.assertRaises(BadWalk) as caught:
             follow(self.low, (0, 0, 0), [2, 1])
         self.assertEqual(caught.exception.index, 1)
+
+    def test_stuckness(self):
+        self.assertEqual((starved(self.season, (0, 0, 0)), stuck(self.season, (0, 0, 0))), ((0, 1, 2), (0, 1, 2)))
+        self.assertEqual(loose(Season(self.ring, needs=[1, 1, 0]), (0, 0, 0)), (0, 1, 2))
+
+    def test_connections(self):
+        self.assertEqual(connect(self.season, (0, 0, 0), (1, 1, 1)).blocked, (0, 1, 2))
+        self.assertIs(connect(Season(self.ring, needs=[1, 1, 0]), (0, 0, 0), (1, 1, 1)).joined, True)
+
+    def test_classes(self):
+        self.assertEqual(list(classes(self.season)), [(0, 0, 0), (1, 1, 1)])
+        self.assertEqual(class_key(self.season, (1, 1, 1)), ((0, 1), (1, 1), (2, 1)))
+
+    def test_orders(self):
+        self.assertEqual(some_order(self.low, (0, 0, 0), [0, 1, 2]), (2, 0, 1))
+        self.assertEqual(bad_order(self.low, (0, 0, 0), [0, 1, 2]), (0,))
+
+    def test_distances(self):
+        self.assertEqual(distances(Season(self.ring, needs=[1, 1, 0]), (0, 0, 0), prices=[1, 1, 5]),
+                         (((0, 0, 0), 0), ((0, 0, 1), 5), ((1, 0, 1), 6), ((1, 1, 1), 7)))
+
+    def test_detours(self):
+        self.assertEqual(least_detour(self.side, (0, 1, 0), (1, 0, 0)), (2,))
+
+    def test_shortest(self):
+        self.assertEqual(shortest_walk(self.side, (0, 1, 0), (1, 0, 0)), (2, 0, 1, 2))
+
+    def test_rests(self):
+        self.assertEqual(list(least_rests(self.season, (0, 0, 0), (1, 1, 1))), [(0,), (1,), (2,)])
+        self.assertEqual(must_rest(self.season, (0, 0, 0), (1, 1, 1)), ())
+        self.assertEqual(fewest_rests(self.season, (0, 0, 0), (1, 1, 1)), (0,))
 
 
 if __name__ == "__main__":

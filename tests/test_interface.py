@@ -1,0 +1,86 @@
+"""The names, parameters and places of the document's interface."""
+
+import importlib
+import inspect
+import unittest
+
+FUNCTIONS = {
+    "settings": ["feeds(valley, setting, sluice)", "fed(valley, setting)", "turned(setting, turns)",
+                 "differing(one, two)", "settings(valley)", "is_setting(valley, value)"],
+    "seasons": ["narrowed(first, *others)"],
+    "lots": ["gain(season, lot)", "load(season, lot)", "want(season, lot)", "bear(season, lot)",
+             "is_obstacle(season, value)"],
+    "running": ["obstacle(season)", "first_running(season)", "running(season)", "running_count(season)"],
+    "tightness": ["greatest_tight_below(season)", "greatest_tight_above(season)", "least_tight_below(season, mill)",
+                  "least_tight_above(season, mill)"],
+    "sureness": ["sure_sides(season)", "fed_range(season, mill)", "tightened(season)", "parting(one, two)",
+                 "same_running(one, two)"],
+    "walks": ["is_walk(season, setting, turns)", "follow(season, setting, turns)", "turnable(season, setting)"],
+    "stuckness": ["starved(season, setting)", "saturated(season, setting)", "stuck(season, setting)",
+                  "loose(season, setting)"],
+    "connections": ["connect(season, one, two)"],
+    "blockades": ["is_blockade(season, setting, low, high)", "blocked_by(season, low, high)"],
+    "classes": ["class_key(season, setting)", "class_season(season, setting)", "first_in_class(season, setting)",
+                "class_size(season, setting)", "classes(season)"],
+    "unity": ["unity(season)"],
+    "orders": ["any_order(season, setting, sluices)", "bad_order(season, setting, sluices)",
+               "some_order(season, setting, sluices)"],
+    "distances": ["distance(season, one, two, *, prices=None)", "distances(season, goal, *, prices=None)",
+                  "is_distance_table(season, goal, table, *, prices=None)", "within(season, setting, turns=None)",
+                  "farthest(season, setting)"],
+    "detours": ["least_detour(season, one, two, *, prices=None)", "is_detour(season, one, two, sluices)"],
+    "shortest": ["shortest_walk(season, one, two, *, prices=None)", "walk_count(season, one, two)"],
+    "rests": ["least_rests(season, one, two)", "fewest_rests(season, one, two)", "must_rest(season, one, two)"],
+}
+METHODS = {
+    ("valleys", "Valley"): ["__init__(self, mills, sluices=())", "touching(self, mill)", "other(self, sluice, mill)",
+                            "built(self, pairs)", "without(self, sluices)", "ring(mills)", "row(mills)"],
+    ("seasons", "Season"): ["__init__(self, valley, *, needs=None, limits=None, sides=None)", "out(self, setting)",
+                            "strayed(self, setting)", "pinned(self, setting, sluices)", "freed(self, sluices)",
+                            "resting(self, lot)", "loosened(self, lowered, raised)", "built(self, pairs)",
+                            "without(self, sluices)", "only(valley, setting)"],
+}
+OTHERS = {
+    ("valleys", "Valley"): ["parts", "__add__", "__len__", "__iter__", "__eq__"],
+    ("seasons", "Season"): ["rigid", "unset", "__contains__", "__and__", "__or__", "__eq__"],
+    ("connections", "Connection"): [],
+    ("unity", "Unity"): [],
+}
+GENERATORS = ("settings", "running", "classes", "least_rests")
+
+
+def module(name):
+    return importlib.import_module(f"millsluices.{name}")
+
+
+class InterfaceTest(unittest.TestCase):
+    def test_functions(self):
+        for name, rows in FUNCTIONS.items():
+            for row in rows:
+                called = row.split("(")[0]
+                function = getattr(module(name), called)
+                with self.subTest(row):
+                    self.assertEqual(called + str(inspect.signature(function)), row)
+                    self.assertEqual(function.__module__, f"millsluices.{name}")
+                    self.assertEqual(inspect.isgeneratorfunction(function), called in GENERATORS)
+
+    def test_methods_are_defined_in_their_class(self):
+        for (name, kind), rows in METHODS.items():
+            for row in rows:
+                called = row.split("(")[0]
+                method = getattr(module(name), kind)
+                with self.subTest(kind=kind, row=row):
+                    self.assertTrue(called in vars(method))
+                    self.assertEqual(called + str(inspect.signature(getattr(method, called))), row)
+
+    def test_classes_operators_and_properties(self):
+        for (name, kind), words in OTHERS.items():
+            found = getattr(module(name), kind)
+            self.assertEqual(found.__module__, f"millsluices.{name}")
+            for word in words:
+                with self.subTest(kind=kind, word=word):
+                    self.assertTrue(word in vars(found))
+
+
+if __name__ == "__main__":
+    unittest.main()
