@@ -25,6 +25,11 @@ def subsets(numbers):
         level = [(*row, number) for row in level for number in numbers if len(row) == 0 or number > row[-1]]
 
 
+def has_part(numbers, parts):
+    """Tell whether one of the parts has no number but those of the numbers."""
+    return any([all([number in numbers for number in part]) for part in parts])
+
+
 def with_spare(season, counts):
     """Return the mills that are fed by more sluices than they need."""
     return tuple([mill for mill, need in enumerate(season.needs) if counts[mill] > need])

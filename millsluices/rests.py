@@ -1,6 +1,6 @@
 """Mills that rest so that a walk leads from one setting to another."""
 
-from millsluices.helpers import subsets
+from millsluices.helpers import has_part, subsets
 from millsluices.settings import differing
 from millsluices.stuckness import all_but, loose
 from millsluices.walks import as_running
@@ -12,11 +12,6 @@ def joins(season, one, two, lot):
     return all([sluice in free for sluice in differing(one, two)])
 
 
-def contains_one(lot, lots):
-    """Tell whether one of the lots is a part of the lot."""
-    return any([all([mill in lot for mill in part]) for part in lots])
-
-
 def least_rests(season, one, two):
     """Yield all lots that join the settings and of which no proper subset does, in the order by size."""
     start = as_running(season, one)
@@ -24,7 +19,7 @@ def least_rests(season, one, two):
     mills = tuple(range(season.valley.mills))
     found = []
     for lot in subsets(mills):
-        if not contains_one(lot, found) and joins(season, start, goal, lot):
+        if not has_part(lot, found) and joins(season, start, goal, lot):
             found.append(lot)
             yield lot
 

@@ -160,6 +160,13 @@ class Season:
         return Season(valley, sides=[(side,) for side in setting])
 
 
+def check_valleys(first, *others):
+    """Raise an error if the valleys of the seasons are not all equal."""
+    for other in others:
+        if first.valley != other.valley:
+            raise ValleysDiffer()
+
+
 def narrowed(first, *others):
     """Return the season in which just those settings run that run in all of these seasons."""
     season = first

@@ -1,9 +1,8 @@
 """What all running settings of a season share, and how two seasons differ."""
 
-from millsluices.errors import ValleysDiffer
 from millsluices.helpers import arcs, backward, path, with_room, with_spare
 from millsluices.running import first_running, solved, with_other_side
-from millsluices.seasons import Season
+from millsluices.seasons import Season, check_valleys
 from millsluices.settings import fed, turned
 from millsluices.tightness import some_running
 
@@ -84,12 +83,6 @@ def breaches(season):
         if limit is not None:
             found.append(Season(valley, needs=alone(valley.mills, mill, limit + 1, 0)))
     return found
-
-
-def check_valleys(one, two):
-    """Raise an error if the valleys of the seasons are not equal."""
-    if one.valley != two.valley:
-        raise ValleysDiffer()
 
 
 def parting(one, two):

@@ -145,3 +145,81 @@ def only_tuples(value):
     if isinstance(value, tuple):
         return all(only_tuples(item) for item in value)
     return value is None or isinstance(value, (int, str))
+
+
+def unset_sluices(season):
+    return [sluice for sluice, let in enumerate(season.sides) if len(let) == 2]
+
+
+def ball(season, start, turns=None, sluices=None):
+    """All settings to which a walk of at most so many turns of the sluices leads from the setting."""
+    sluices = unset_sluices(season) if sluices is None else sluices
+    found, edge, made = {start}, [start], 0
+    while edge and (turns is None or made < turns):
+        edge = [after for setting in edge for after in {flip(setting, sluice) for sluice in sluices}
+                if runs(season, after)]
+        edge = [after for after in dict.fromkeys(edge) if after not in found]
+        found.update(edge)
+        made += 1
+    return found
+
+
+def jammed_ball(season, start, jam):
+    """All settings to which a walk leads that turns no sluice of the jam."""
+    return ball(season, start, sluices=[sluice for sluice in unset_sluices(season) if sluice not in jam])
+
+
+def random_wishes(rng, season, many):
+    """So many seasons of the same valley, each with a few needs, limits and sides of its own."""
+    found = []
+    for _ in range(many):
+        base = counts(season.valley, [rng.randint(0, 1) for _ in season.valley.sluices])
+        needs = [max(0, count - rng.choice((0, 1, 1, 2))) if rng.random() < 0.6 else 0 for count in base]
+        limits = [count + rng.randint(0, 1) if rng.random() < 0.2 else None for count in base]
+        sides = [(0, 1) if rng.random() < 0.9 else rng.choice(((0,), (1,))) for _ in season.valley.sluices]
+        found.append(Season(season.valley, needs=needs, limits=limits, sides=sides))
+    return found
+
+
+def random_calendar_seasons(rng, many, **options):
+    """So many seasons of one random valley."""
+    valley = random_valley(rng, **options)
+    return [random_season(rng, valley=valley, tight=0.3) for _ in range(many)]
+
+
+def same_as(test, call, expected):
+    """Hold an answer of True or False against the expected one; it must be one of these two values."""
+    test.assertIs(call, bool(expected))
+
+
+def random_follows(rng, many):
+    """For each of so many seasons the numbers of some that may follow it; some are repeated."""
+    return [[rng.randrange(many) for _ in range(rng.choice((0, 1, 1, 1, 2, 2, 3)))] for _ in range(many)]
+
+
+def can_go_on(calendar, index, setting, table, notice, turns):
+    """The condition of point 37 for a running setting, with "stands in the table at j" for "lasts in j"."""
+    reach = ball(calendar.seasons[index], setting, turns)
+
+    def changes(after, later):
+        return runs(calendar.seasons[later], after) and after in table[later]
+
+    if notice:
+        return all(any(changes(after, later) for after in reach) for later in calendar.follows[index])
+    return any(all(changes(after, later) for later in calendar.follows[index]) for after in reach)
+
+
+def plain_falling(calendar, notice, turns):
+    """All settings that do not last, as pairs with the season, and the stage at which each of them is lost."""
+    table = [set(all_running(season)) for season in calendar.seasons]
+    numbers = {}
+    number = 1
+    while True:
+        lost = [(index, setting) for index, members in enumerate(table) for setting in members
+                if not can_go_on(calendar, index, setting, table, notice, turns)]
+        if not lost:
+            return numbers
+        for index, setting in lost:
+            numbers[index, setting] = number
+            table[index].discard(setting)
+        number += 1

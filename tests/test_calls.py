@@ -5,9 +5,12 @@ import inspect
 import random
 import unittest
 
-from millsluices import (blockades, classes, connections, detours, distances, lots, orders, rests, running, seasons,
-                         settings, shortest, stuckness, sureness, tightness, unity, valleys, walks)
+from millsluices import (attacks, blockades, calendars, classes, connections, detours, distances, evenings, falling,
+                         fits, jams, lasting, lots, orders, outs, plans, rests, running, seasons, settings, shortest,
+                         stuckness, sureness, tightness, timetables, unity, valleys, walks)
+from millsluices.calendars import Calendar
 from millsluices.errors import NothingRuns, NotRunning
+from millsluices.plans import Plan
 from millsluices.seasons import Season
 from millsluices.valleys import Valley
 from plain import as_lists, only_tuples
@@ -18,8 +21,20 @@ FULL = Season(RING, needs=[1, 1, 1])
 SIDE = Season(Valley(3, ((1, 2), (1, 2), (0, 1))), needs=(0, 1, 1))
 ZERO, ONE, UP = (0, 0, 0), (1, 1, 1), (0, 0, 1)
 TABLE = ((ZERO, 0), (UP, 5), ((1, 0, 1), 6), (ONE, 7))
+WIDE = Season(RING.built([(0, 1)]), needs=[1, 1, 1])
+WISH = Season(WIDE.valley, needs=[1, 2, 1])
+FOUR, GOAL = (0, 0, 0, 0), (0, 0, 0, 1)
+PLAN_ROWS = ((FOUR, (), 3), (FOUR, (3,), 0))
+PLAN = Plan(PLAN_ROWS)
+EVENINGS = (((), FOUR, GOAL), ((0,), GOAL, GOAL), ((1,), GOAL, GOAL), ((2,), GOAL, GOAL), ((3,), GOAL, GOAL))
+HARD = Season.only(WIDE.valley, FOUR)
+ATTACKS = attacks.attack_table(WIDE, [WISH, HARD], FOUR, most=2)
+LATER = Season(RING, needs=[0, 1, 1])
+YEAR = Calendar.yearly([LOW, LATER])
+LASTING = lasting.lasting(YEAR, turns=1)
+FALLS = falling.fall_table(YEAR, turns=0)
 
-# Each row has what is called, its arguments in their order by name, and those of them that are sets.
+# Each row has what is called, its arguments in their order by name, and those of them that are sets or tables.
 CALLS = [
     (valleys.Valley, {"mills": 3, "sluices": ((0, 1), (1, 2))}, ()),
     (RING.touching, {"mill": 1}, ()),
@@ -96,38 +111,97 @@ CALLS = [
     (rests.least_rests, {"season": FULL, "one": ZERO, "two": ONE}, ()),
     (rests.fewest_rests, {"season": FULL, "one": ZERO, "two": ONE}, ()),
     (rests.must_rest, {"season": FULL, "one": ZERO, "two": ONE}, ()),
+    (outs.greatest_out, {"season": FULL, "setting": ZERO, "turns": (0, 1)}, ()),
+    (outs.outs_needed, {"season": FULL, "one": ZERO, "two": ONE}, ()),
+    (outs.strained_turns, {"season": FULL, "one": ZERO, "two": ONE}, ()),
+    (outs.strained_turns, {"season": LOW, "one": ZERO, "two": ONE}, ()),
+    (fits.fit, {"season": WIDE, "wish": WISH, "setting": FOUR}, ()),
+    (fits.fit, {"season": FULL, "wish": LATER.pinned(ONE, (0,)), "setting": ZERO}, ()),
+    (fits.meeting_season, {"season": WIDE, "wish": WISH, "setting": FOUR}, ()),
+    (jams.survives, {"season": WIDE, "wishes": (WISH, HARD), "setting": FOUR, "jam": (0, 3)}, ("jam", "wishes")),
+    (jams.fatal_jams, {"season": WIDE, "wishes": (WISH, HARD), "setting": FOUR, "most": 3}, ("wishes",)),
+    (jams.jam_strength, {"season": WIDE, "wishes": (WISH,), "setting": FOUR}, ("wishes",)),
+    (jams.stoutest, {"season": WIDE, "wishes": (WISH, HARD), "setting": FOUR}, ("wishes",)),
+    (plans.Plan, {"rows": PLAN_ROWS}, ()),
+    (PLAN, {"setting": FOUR, "known": (3,)}, ()),
+    (plans.follow_plan, {"plan": PLAN, "setting": FOUR, "jam": (1, 3)}, ("jam",)),
+    (plans.is_plan, {"season": WIDE, "wish": WISH, "setting": FOUR, "plan": PLAN, "most": 1}, ()),
+    (plans.find_plan, {"season": WIDE, "wish": WISH, "setting": FOUR, "most": 1}, ()),
+    (evenings.withstands, {"season": WIDE, "wishes": (WISH,), "setting": FOUR, "most": 1}, ("wishes",)),
+    (evenings.evening_table, {"season": WIDE, "wishes": (WISH,), "setting": FOUR, "most": 1}, ("wishes",)),
+    (evenings.is_evening_table, {"season": WIDE, "wishes": (WISH,), "setting": FOUR, "rows": EVENINGS, "most": 1},
+     ("rows", "wishes")),
+    (attacks.attack_table, {"season": WIDE, "wishes": (WISH, HARD), "setting": FOUR, "most": 2}, ("wishes",)),
+    (attacks.is_attack_table, {"season": WIDE, "wishes": (WISH, HARD), "setting": FOUR, "rows": ATTACKS, "most": 2},
+     ("rows", "wishes")),
+    (calendars.Calendar, {"seasons": (LOW, LATER), "follows": ((1, 0), (0, 0))}, ()),
+    (Calendar.yearly, {"seasons": (LOW, LATER, FULL)}, ()),
+    (lasting.lasting, {"calendar": YEAR, "notice": False, "turns": 1}, ()),
+    (lasting.lasts, {"calendar": YEAR, "index": 0, "setting": UP, "notice": True, "turns": 0}, ()),
+    (lasting.is_lasting_table, {"calendar": YEAR, "table": LASTING, "notice": True, "turns": 1}, ()),
+    (lasting.change_setting, {"calendar": YEAR, "index": 0, "setting": UP, "later": 1, "turns": 1}, ()),
+    (falling.falls_after, {"calendar": YEAR, "index": 0, "setting": UP, "notice": True, "turns": 0}, ()),
+    (falling.fall_table, {"calendar": YEAR, "notice": False, "turns": 0}, ()),
+    (falling.is_fall_table, {"calendar": YEAR, "rows": FALLS, "notice": True, "turns": 0}, ("rows",)),
+    (timetables.timetable, {"seasons": (LOW, LATER, FULL), "setting": UP, "turns": None}, ()),
+    (timetables.timetable, {"seasons": (LOW, LATER, FULL), "setting": UP, "turns": 0}, ()),
+    (timetables.is_timetable, {"seasons": (LOW, LATER), "setting": UP, "changes": (ZERO,), "turns": 1}, ()),
 ]
+
+# What can be read of the objects that callers create.
+FIELDS = {Valley: ("mills", "sluices"), Season: ("valley", "needs", "limits", "sides"), Plan: ("rows",),
+          Calendar: ("seasons", "follows")}
+
+
+def fields(value):
+    """The value with the fields of objects instead of the objects."""
+    if isinstance(value, (tuple, list)):
+        return value.__class__(fields(item) for item in value)
+    if hasattr(value, "__dict__"):
+        return tuple((name, fields(getattr(value, name))) for name in FIELDS.get(value.__class__, sorted(vars(value))))
+    return value
 
 
 def outcome(call, *args, **named):
     """What the call returns, in a form that can be compared: of generators all items, of objects the fields."""
     found = call(*args, **named)
-    if inspect.isgenerator(found):
-        return tuple(found)
-    if isinstance(found, Season):
-        return found.valley.mills, found.valley.sluices, found.needs, found.limits, found.sides
-    if isinstance(found, Valley):
-        return found.mills, found.sluices
-    return tuple(sorted(vars(found).items())) if hasattr(found, "__dict__") else found
+    return fields(tuple(found) if inspect.isgenerator(found) else found)
 
 
 def listed(named):
     return {name: as_lists(value) for name, value in named.items()}
 
 
+def spoil(value):
+    """Change the list at every level."""
+    if isinstance(value, list):
+        for item in value:
+            spoil(item)
+        value.reverse()
+        value.append(0)
+
+
+def named_alone(call):
+    """The names of the parameters that are passed by name alone."""
+    return [word.name for word in inspect.signature(call).parameters.values() if word.kind == word.KEYWORD_ONLY]
+
+
 class CallsTest(unittest.TestCase):
     def test_by_place_and_by_name(self):
         for call, named, _ in CALLS:
-            placed = [value for name, value in named.items() if name != "prices"]
-            keyed = {name: value for name, value in named.items() if name == "prices"}
+            placed = [value for name, value in named.items() if name not in named_alone(call)]
+            keyed = {name: value for name, value in named.items() if name in named_alone(call)}
             with self.subTest(call):
                 self.assertEqual(outcome(call, *placed, **keyed), outcome(call, **named))
 
-    def test_prices_are_passed_by_name_alone(self):
+    def test_what_stands_behind_a_star_is_passed_by_name_alone(self):
+        words = set()
         for call, named, _ in CALLS:
-            if "prices" in named:
+            if named_alone(call):
+                words.update(named_alone(call))
                 with self.subTest(call), self.assertRaises(TypeError):
-                    call(*named.values())
+                    outcome(call, *named.values())
+        self.assertTrue({"prices", "most", "notice", "turns"} <= words)
 
     def test_tuples_at_every_level_are_returned(self):
         for call, named, _ in CALLS:
@@ -148,7 +222,7 @@ class CallsTest(unittest.TestCase):
             with self.subTest(call):
                 self.assertEqual(passed, before)
 
-    def test_numbers_of_sets_in_any_order_and_repeated(self):
+    def test_sets_and_tables_in_any_order_and_repeated(self):
         rng = random.Random(1)
         for call, named, sets in CALLS:
             for name in sets:
@@ -169,9 +243,7 @@ class CallsTest(unittest.TestCase):
             if not inspect.isgenerator(found):
                 before = outcome(lambda: found)
                 for value in passed.values():
-                    if isinstance(value, list):
-                        value.reverse()
-                        value.append(0)
+                    spoil(value)
                 with self.subTest(call):
                     self.assertEqual(outcome(lambda: found), before)
 

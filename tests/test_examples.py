@@ -2,13 +2,20 @@
 
 import unittest
 
+from millsluices.calendars import Calendar
 from millsluices.classes import class_key, classes
 from millsluices.connections import connect
 from millsluices.detours import least_detour
 from millsluices.distances import distances
 from millsluices.errors import BadWalk
+from millsluices.falling import falls_after
+from millsluices.fits import fit
+from millsluices.jams import fatal_jams, jam_strength, stoutest
+from millsluices.lasting import lasting
 from millsluices.lots import gain, load
 from millsluices.orders import bad_order, some_order
+from millsluices.outs import greatest_out, outs_needed
+from millsluices.plans import Plan, follow_plan, is_plan
 from millsluices.rests import fewest_rests, least_rests, must_rest
 from millsluices.running import obstacle, running
 from millsluices.seasons import Season
@@ -17,6 +24,7 @@ from millsluices.shortest import shortest_walk
 from millsluices.stuckness import loose, starved, stuck
 from millsluices.sureness import sure_sides, tightened
 from millsluices.tightness import greatest_tight_below
+from millsluices.timetables import timetable
 from millsluices.valleys import Valley
 from millsluices.walks import follow, turnable
 
@@ -26,6 +34,10 @@ class ExamplesTest(unittest.TestCase):
     season = Season(ring, needs=[1, 1, 1])
     low = Season(ring, needs=[1, 1, 0])
     side = Season(Valley(3, [(1, 2), (1, 2), (0, 1)]), needs=[0, 1, 1])
+    wide = Season(ring.built([(0, 1)]), needs=[1, 1, 1])
+    wish = Season(wide.valley, needs=[1, 2, 1])
+    zero = (0, 0, 0, 0)
+    year = Calendar.yearly([Season(ring, needs=[1, 1, 0]), Season(ring, needs=[0, 1, 1])])
 
     def test_valleys(self):
         self.assertEqual(self.ring.sluices, ((0, 1), (1, 2), (2, 0)))
@@ -93,6 +105,40 @@ class ExamplesTest(unittest.TestCase):
         self.assertEqual(list(least_rests(self.season, (0, 0, 0), (1, 1, 1))), [(0,), (1,), (2,)])
         self.assertEqual(must_rest(self.season, (0, 0, 0), (1, 1, 1)), ())
         self.assertEqual(fewest_rests(self.season, (0, 0, 0), (1, 1, 1)), (0,))
+
+    def test_outs(self):
+        narrow = self.season & Season(self.ring, limits=[1, 1, 1])
+        self.assertEqual(outs_needed(self.season, (0, 0, 0), (1, 1, 1)), 1)
+        self.assertEqual(outs_needed(narrow, (0, 0, 0), (1, 1, 1)), 2)
+        self.assertEqual(greatest_out(self.season, (0, 0, 0), [0, 1]), 1)
+
+    def test_fits(self):
+        self.assertEqual(fit(self.wide, self.wish, self.zero).reached, (0, 0, 0, 1))
+        self.assertIs(fit(self.wide, Season(self.wide.valley, needs=[2, 2, 1]), self.zero).met, False)
+
+    def test_jams(self):
+        self.assertEqual(list(fatal_jams(self.wide, [self.wish], self.zero, most=3)), [(0, 3)])
+        self.assertEqual(jam_strength(self.wide, [self.wish], self.zero), 1)
+        self.assertEqual(stoutest(self.wide, [self.wish], self.zero), (None, (0, 0, 0, 1)))
+
+    def test_plans(self):
+        plan = Plan([((0, 0, 0, 0), (), 3), ((0, 0, 0, 0), (3,), 0)])
+        self.assertEqual(follow_plan(plan, self.zero, [1, 3]), ((3, False), (0, True)))
+        self.assertIs(is_plan(self.wide, self.wish, self.zero, plan, most=1), True)
+        self.assertIs(is_plan(self.wide, self.wish, self.zero, plan, most=2), False)
+
+    def test_lasting(self):
+        self.assertEqual(lasting(self.year)[0], ((0, 0, 0), (0, 0, 1), (1, 0, 1), (1, 1, 1)))
+        self.assertEqual(lasting(self.year, turns=0)[0], ((0, 0, 0), (1, 1, 1)))
+
+    def test_falling(self):
+        self.assertEqual(falls_after(self.year, 0, (0, 0, 1), turns=0), 1)
+
+    def test_timetables(self):
+        days = [Season(self.ring, needs=[1, 1, 0]), Season(self.ring, needs=[0, 1, 1]),
+                Season(self.ring, needs=[0, 0, 2])]
+        self.assertEqual(timetable(days, (1, 0, 1), turns=1).changes, ((1, 1, 1), (1, 1, 0)))
+        self.assertEqual(timetable(days, (1, 0, 1), turns=0).day, 1)
 
 
 if __name__ == "__main__":

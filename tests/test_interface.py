@@ -31,6 +31,26 @@ FUNCTIONS = {
     "detours": ["least_detour(season, one, two, *, prices=None)", "is_detour(season, one, two, sluices)"],
     "shortest": ["shortest_walk(season, one, two, *, prices=None)", "walk_count(season, one, two)"],
     "rests": ["least_rests(season, one, two)", "fewest_rests(season, one, two)", "must_rest(season, one, two)"],
+    "outs": ["greatest_out(season, setting, turns)", "outs_needed(season, one, two)",
+             "strained_turns(season, one, two)"],
+    "fits": ["fit(season, wish, setting)", "meeting_season(season, wish, setting)"],
+    "jams": ["survives(season, wishes, setting, jam)", "fatal_jams(season, wishes, setting, *, most)",
+             "jam_strength(season, wishes, setting)", "stoutest(season, wishes, setting)"],
+    "plans": ["follow_plan(plan, setting, jam)", "is_plan(season, wish, setting, plan, *, most)",
+              "find_plan(season, wish, setting, *, most)"],
+    "evenings": ["withstands(season, wishes, setting, *, most)", "evening_table(season, wishes, setting, *, most)",
+                 "is_evening_table(season, wishes, setting, rows, *, most)"],
+    "attacks": ["attack_table(season, wishes, setting, *, most)",
+                "is_attack_table(season, wishes, setting, rows, *, most)"],
+    "lasting": ["lasting(calendar, *, notice=True, turns=None)",
+                "lasts(calendar, index, setting, *, notice=True, turns=None)",
+                "is_lasting_table(calendar, table, *, notice=True, turns=None)",
+                "change_setting(calendar, index, setting, later, *, turns=None)"],
+    "falling": ["falls_after(calendar, index, setting, *, notice=True, turns=None)",
+                "fall_table(calendar, *, notice=True, turns=None)",
+                "is_fall_table(calendar, rows, *, notice=True, turns=None)"],
+    "timetables": ["timetable(seasons, setting, *, turns=None)",
+                   "is_timetable(seasons, setting, changes, *, turns=None)"],
 }
 METHODS = {
     ("valleys", "Valley"): ["__init__(self, mills, sluices=())", "touching(self, mill)", "other(self, sluice, mill)",
@@ -39,14 +59,20 @@ METHODS = {
                             "strayed(self, setting)", "pinned(self, setting, sluices)", "freed(self, sluices)",
                             "resting(self, lot)", "loosened(self, lowered, raised)", "built(self, pairs)",
                             "without(self, sluices)", "only(valley, setting)"],
+    ("plans", "Plan"): ["__init__(self, rows)", "__call__(self, setting, known)"],
+    ("calendars", "Calendar"): ["__init__(self, seasons, follows)", "yearly(seasons)"],
 }
 OTHERS = {
     ("valleys", "Valley"): ["parts", "__add__", "__len__", "__iter__", "__eq__"],
     ("seasons", "Season"): ["rigid", "unset", "__contains__", "__and__", "__or__", "__eq__"],
     ("connections", "Connection"): [],
     ("unity", "Unity"): [],
+    ("fits", "Fit"): [],
+    ("plans", "Plan"): ["__len__", "__iter__", "__eq__"],
+    ("calendars", "Calendar"): ["__len__", "__iter__", "__eq__"],
+    ("timetables", "Timetable"): [],
 }
-GENERATORS = ("settings", "running", "classes", "least_rests")
+GENERATORS = ("settings", "running", "classes", "least_rests", "fatal_jams")
 
 
 def module(name):

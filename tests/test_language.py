@@ -9,9 +9,12 @@ FOLDER = pathlib.Path(__file__).resolve().parent.parent / "millsluices"
 PACKAGE = FOLDER.name
 FILES = sorted(FOLDER.glob("*.py"))
 
+# Parameters that have objects with a `__call__` as their values.
+CALLED_OBJECTS = {"plan"}
+
 BUILTINS = set(("len range enumerate zip min max sum abs sorted reversed int str bool bytes list tuple dict set isinstance "
                 "ord repr any all divmod iter super property staticmethod ValueError").split())
-BUILTIN_METHODS = set(("append clear copy count endswith extend find get index insert items join keys pop replace "
+BUILTIN_METHODS = set(("append bit_length clear copy count endswith extend find get index insert items join keys pop replace "
                        "reverse setdefault split startswith strip update values").split())
 STATEMENTS = (ast.FunctionDef, ast.ClassDef, ast.Return, ast.Assign, ast.AugAssign, ast.For, ast.While, ast.If,
               ast.Raise, ast.Expr, ast.Pass, ast.Break, ast.Continue, ast.ImportFrom, ast.Assert, ast.Delete)
@@ -159,7 +162,7 @@ class LanguageTest(unittest.TestCase):
             here |= {alias.name for node in tree.body if isinstance(node, ast.ImportFrom) for alias in node.names}
             for node in ast.walk(tree):
                 if isinstance(node, ast.Call) and isinstance(node.func, ast.Name):
-                    self.assertTrue(node.func.id in here | BUILTINS, (stem, node.func.id))
+                    self.assertTrue(node.func.id in here | BUILTINS | CALLED_OBJECTS, (stem, node.func.id))
                 elif isinstance(node, ast.Call):
                     self.assertIsInstance(node.func, ast.Attribute)
                     self.assertTrue(node.func.attr in BUILTIN_METHODS | self.methods, (stem, node.func.attr))
