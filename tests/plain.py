@@ -223,3 +223,62 @@ def plain_falling(calendar, notice, turns):
             numbers[index, setting] = number
             table[index].discard(setting)
         number += 1
+
+
+def plain_nights(setting, foes, most):
+    """The settings after all nights in which at most so many of the foes are turned."""
+    foes = sorted(set(foes))
+    return {flips(setting, lot) for many in range(min(most, len(foes)) + 1)
+            for lot in itertools.combinations(foes, many)}
+
+
+def plain_days(season, setting, foes, turns, shared):
+    """The evenings to which a day of the miller leads."""
+    own = [sluice for sluice in unset_sluices(season) if shared or sluice not in foes]
+    return ball(season, setting, turns, own)
+
+
+def plain_storm(season, foes, most, turns, shared):
+    """All settings that do not hold, and the number of nights within which each of them falls."""
+    left = set(all_running(season))
+    days = {setting: plain_days(season, setting, foes, turns, shared) for setting in left}
+    found = {}
+    number = 1
+    while True:
+        lost = [setting for setting in left
+                if not any(plain_nights(evening, foes, most) <= left for evening in days[setting])]
+        if not lost:
+            return found
+        found.update((setting, number) for setting in lost)
+        left.difference_update(lost)
+        number += 1
+
+
+def random_foes(rng, season):
+    """Some of the unset sluices, in any order, some of them repeated."""
+    unset = unset_sluices(season)
+    foes = [sluice for sluice in unset if rng.random() < rng.choice((0.2, 0.5, 0.9))]
+    foes += foes[:1]
+    rng.shuffle(foes)
+    return foes
+
+
+def random_habit_moves(rng, size, states=3, many=6):
+    """Moves that do not contradict each other; some are repeated."""
+    found = {}
+    for _ in range(rng.randint(0, many) if size else 0):
+        found.setdefault((rng.randrange(states), rng.randrange(size)), rng.randrange(states))
+    moves = [(state, sluice, after) for (state, sluice), after in found.items()]
+    return moves + moves[:1]
+
+
+def let_rows(moves, longest):
+    """All rows of turns of at most so many turns that the moves let, by size, with the states after them."""
+    table = {(state, sluice): after for state, sluice, after in moves}
+    level = [((), 0)]
+    found = list(level)
+    for _ in range(longest):
+        level = [((*row, sluice), table[state, sluice]) for row, state in level
+                 for origin, sluice in sorted(table) if origin == state]
+        found += level
+    return found

@@ -5,11 +5,13 @@ import inspect
 import random
 import unittest
 
-from millsluices import (attacks, blockades, calendars, classes, connections, detours, distances, evenings, falling,
-                         fits, jams, lasting, lots, orders, outs, plans, rests, running, seasons, settings, shortest,
-                         stuckness, sureness, tightness, timetables, unity, valleys, walks)
+from millsluices import (attacks, blockades, buying, calendars, classes, connections, detours, distances, evenings,
+                         falling, fits, guarding, habits, harms, holding, jams, lasting, lots, nights, orders, outs,
+                         partings, plans, rests, running, seasons, settings, shortest, storms, stuckness, sureness,
+                         tightness, timetables, unity, valleys, walks, winning)
 from millsluices.calendars import Calendar
 from millsluices.errors import NothingRuns, NotRunning
+from millsluices.habits import Habit
 from millsluices.plans import Plan
 from millsluices.seasons import Season
 from millsluices.valleys import Valley
@@ -33,6 +35,12 @@ LATER = Season(RING, needs=[0, 1, 1])
 YEAR = Calendar.yearly([LOW, LATER])
 LASTING = lasting.lasting(YEAR, turns=1)
 FALLS = falling.fall_table(YEAR, turns=0)
+HOLDS = ((FOUR, FOUR), ((1, 0, 0, 0), (1, 0, 0, 0)))
+STORMS = storms.storm_table(LOW, (0, 2))
+MOVES = ((0, 0, 0), (0, 1, 0), (0, 2, 1), (1, 2, 0))
+HABIT, MILD = Habit(MOVES), Habit(((0, 2, 1), (1, 2, 0)))
+PAIRS = ((ZERO, 0), (UP, 1))
+GUARDED = guarding.guarded(LOW, HABIT, (2,))
 
 # Each row has what is called, its arguments in their order by name, and those of them that are sets or tables.
 CALLS = [
@@ -146,11 +154,39 @@ CALLS = [
     (timetables.timetable, {"seasons": (LOW, LATER, FULL), "setting": UP, "turns": None}, ()),
     (timetables.timetable, {"seasons": (LOW, LATER, FULL), "setting": UP, "turns": 0}, ()),
     (timetables.is_timetable, {"seasons": (LOW, LATER), "setting": UP, "changes": (ZERO,), "turns": 1}, ()),
+    (nights.nights, {"season": WIDE, "setting": FOUR, "foes": (0, 3), "most": 2}, ("foes",)),
+    (nights.braced, {"season": WIDE, "setting": FOUR, "foes": (0, 3), "most": 2}, ("foes",)),
+    (holding.holding, {"season": WIDE, "foes": (0, 3), "most": 1, "turns": 1, "shared": True}, ("foes",)),
+    (holding.holds, {"season": WIDE, "setting": FOUR, "foes": (0, 3), "most": 1, "turns": 1, "shared": False},
+     ("foes",)),
+    (holding.hold_table, {"season": WIDE, "setting": FOUR, "foes": (0, 3), "most": 1, "turns": 1, "shared": True},
+     ("foes",)),
+    (holding.is_hold_table, {"season": WIDE, "setting": FOUR, "foes": (0,), "rows": HOLDS, "most": 1, "turns": 0,
+                             "shared": False}, ("foes", "rows")),
+    (storms.falls_within, {"season": LOW, "setting": UP, "foes": (0, 2), "most": 1, "turns": 0, "shared": False},
+     ("foes",)),
+    (storms.storm_table, {"season": LOW, "foes": (0, 2), "most": 1, "turns": 0, "shared": False}, ("foes",)),
+    (storms.is_storm_table, {"season": LOW, "foes": (0, 2), "rows": STORMS, "most": 1, "turns": None,
+                             "shared": False}, ("foes", "rows")),
+    (winning.wins_after, {"season": LOW, "wish": LATER, "setting": UP, "foes": (0,), "most": 0, "turns": 1,
+                          "shared": True}, ("foes",)),
+    (buying.fewest_to_buy, {"season": LOW, "setting": UP, "foes": (0, 2), "most": 1, "turns": 1}, ("foes",)),
+    (habits.Habit, {"moves": MOVES}, ("moves",)),
+    (HABIT.after, {"state": 0, "sluice": 2}, ()),
+    (HABIT.state_after, {"turns": (2, 2, 0)}, ()),
+    (harms.harm, {"season": LOW, "setting": ZERO, "habit": HABIT}, ()),
+    (harms.is_harmless_table, {"season": LOW, "setting": ZERO, "habit": MILD, "table": PAIRS}, ("table",)),
+    (harms.reached_pairs, {"season": LOW, "setting": ZERO, "habit": HABIT}, ()),
+    (guarding.guarded, {"season": LOW, "habit": HABIT, "foes": (2,)}, ("foes",)),
+    (guarding.is_guard_table, {"season": LOW, "habit": HABIT, "foes": (2,), "table": GUARDED}, ("foes", "table")),
+    (guarding.guard_lets, {"season": LOW, "habit": HABIT, "foes": (2, 1), "setting": UP, "state": 0}, ("foes",)),
+    (guarding.guarded_reach, {"season": LOW, "habit": HABIT, "foes": (2,), "setting": UP}, ("foes",)),
+    (partings.parting_row, {"season": LOW, "setting": UP, "one": HABIT, "two": MILD}, ()),
 ]
 
 # What can be read of the objects that callers create.
 FIELDS = {Valley: ("mills", "sluices"), Season: ("valley", "needs", "limits", "sides"), Plan: ("rows",),
-          Calendar: ("seasons", "follows")}
+          Calendar: ("seasons", "follows"), Habit: ("moves",)}
 
 
 def fields(value):
@@ -201,7 +237,7 @@ class CallsTest(unittest.TestCase):
                 words.update(named_alone(call))
                 with self.subTest(call), self.assertRaises(TypeError):
                     outcome(call, *named.values())
-        self.assertTrue({"prices", "most", "notice", "turns"} <= words)
+        self.assertTrue({"prices", "most", "notice", "turns", "shared"} <= words)
 
     def test_tuples_at_every_level_are_returned(self):
         for call, named, _ in CALLS:

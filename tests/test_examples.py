@@ -10,9 +10,14 @@ from millsluices.distances import distances
 from millsluices.errors import BadWalk
 from millsluices.falling import falls_after
 from millsluices.fits import fit
+from millsluices.guarding import guarded_reach
+from millsluices.habits import Habit
+from millsluices.harms import harm, reached_pairs
+from millsluices.holding import is_hold_table
 from millsluices.jams import fatal_jams, jam_strength, stoutest
 from millsluices.lasting import lasting
 from millsluices.lots import gain, load
+from millsluices.nights import braced, nights
 from millsluices.orders import bad_order, some_order
 from millsluices.outs import greatest_out, outs_needed
 from millsluices.plans import Plan, follow_plan, is_plan
@@ -139,6 +144,25 @@ class ExamplesTest(unittest.TestCase):
                 Season(self.ring, needs=[0, 0, 2])]
         self.assertEqual(timetable(days, (1, 0, 1), turns=1).changes, ((1, 1, 1), (1, 1, 0)))
         self.assertEqual(timetable(days, (1, 0, 1), turns=0).day, 1)
+
+    def test_nights(self):
+        self.assertEqual(nights(self.wide, self.zero, [0, 3]), (self.zero, (0, 0, 0, 1), (1, 0, 0, 0)))
+        self.assertIs(braced(self.wide, self.zero, [0, 3]), True)
+        self.assertIs(braced(self.wide, self.zero, [0, 3], most=2), False)
+
+    def test_holding(self):
+        rows = [((0, 0, 0, 0), (0, 0, 0, 0)), ((1, 0, 0, 0), (1, 0, 0, 0))]
+        self.assertIs(is_hold_table(self.wide, self.zero, [0], rows, turns=0), True)
+
+    def test_harms(self):
+        habit = Habit([(0, 2, 1), (1, 0, 0)])
+        self.assertEqual(harm(self.low, (0, 0, 0), habit), (2, 0, 2))
+        self.assertEqual(reached_pairs(self.low, (0, 0, 0), habit),
+                         (((0, 0, 0), 0), ((0, 0, 1), 1), ((1, 0, 1), 0)))
+
+    def test_guarding(self):
+        self.assertEqual(guarded_reach(self.low, Habit([(0, 0, 0), (0, 1, 0), (0, 2, 0)]), [0], (0, 0, 1)),
+                         (((0, 0, 1), 0), ((1, 0, 1), 0)))
 
 
 if __name__ == "__main__":

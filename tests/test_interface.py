@@ -51,6 +51,21 @@ FUNCTIONS = {
                 "is_fall_table(calendar, rows, *, notice=True, turns=None)"],
     "timetables": ["timetable(seasons, setting, *, turns=None)",
                    "is_timetable(seasons, setting, changes, *, turns=None)"],
+    "nights": ["nights(season, setting, foes, *, most=1)", "braced(season, setting, foes, *, most=1)"],
+    "holding": ["holding(season, foes, *, most=1, turns=None, shared=False)",
+                "holds(season, setting, foes, *, most=1, turns=None, shared=False)",
+                "hold_table(season, setting, foes, *, most=1, turns=None, shared=False)",
+                "is_hold_table(season, setting, foes, rows, *, most=1, turns=None, shared=False)"],
+    "storms": ["falls_within(season, setting, foes, *, most=1, turns=None, shared=False)",
+               "storm_table(season, foes, *, most=1, turns=None, shared=False)",
+               "is_storm_table(season, foes, rows, *, most=1, turns=None, shared=False)"],
+    "winning": ["wins_after(season, wish, setting, foes, *, most=1, turns=None, shared=False)"],
+    "buying": ["fewest_to_buy(season, setting, foes, *, most=1, turns=None)"],
+    "harms": ["harm(season, setting, habit)", "is_harmless_table(season, setting, habit, table)",
+              "reached_pairs(season, setting, habit)"],
+    "guarding": ["guarded(season, habit, foes)", "is_guard_table(season, habit, foes, table)",
+                 "guard_lets(season, habit, foes, setting, state)", "guarded_reach(season, habit, foes, setting)"],
+    "partings": ["parting_row(season, setting, one, two)"],
 }
 METHODS = {
     ("valleys", "Valley"): ["__init__(self, mills, sluices=())", "touching(self, mill)", "other(self, sluice, mill)",
@@ -61,6 +76,7 @@ METHODS = {
                             "without(self, sluices)", "only(valley, setting)"],
     ("plans", "Plan"): ["__init__(self, rows)", "__call__(self, setting, known)"],
     ("calendars", "Calendar"): ["__init__(self, seasons, follows)", "yearly(seasons)"],
+    ("habits", "Habit"): ["__init__(self, moves)", "after(self, state, sluice)", "state_after(self, turns)"],
 }
 OTHERS = {
     ("valleys", "Valley"): ["parts", "__add__", "__len__", "__iter__", "__eq__"],
@@ -71,6 +87,7 @@ OTHERS = {
     ("plans", "Plan"): ["__len__", "__iter__", "__eq__"],
     ("calendars", "Calendar"): ["__len__", "__iter__", "__eq__"],
     ("timetables", "Timetable"): [],
+    ("habits", "Habit"): ["__eq__"],
 }
 GENERATORS = ("settings", "running", "classes", "least_rests", "fatal_jams")
 
