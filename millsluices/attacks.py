@@ -4,14 +4,10 @@ from millsluices.evenings import JamGame, larger
 from millsluices.fits import checked_start
 
 
-def next_jam(game, mornings, surviving, jam, evening):
-    """Return a sluice whose jam is followed by a lost morning, if possible by one that survives it no more.
-
-    There is such a sluice.
-    """
+def next_jam(game, mornings, jam, evening):
+    """Return the first sluice whose jam is followed by a morning that does not withstand; there is one."""
     lost = [sluice for sluice in game.next_jams(jam) if not game.field.has(mornings[larger(jam, sluice)], evening)]
-    at_once = [sluice for sluice in lost if not game.field.has(surviving[larger(jam, sluice)], evening)]
-    return at_once[0] if len(at_once) > 0 else lost[0]
+    return lost[0]
 
 
 def attack_table(season, wishes, setting, *, most):
@@ -22,17 +18,16 @@ def attack_table(season, wishes, setting, *, most):
     mornings = game.withstanding()
     if field.has(mornings[()], start):
         return None
-    surviving = {known: game.outlook.surviving(known) for known in mornings}
     done = {known: 0 for known in mornings}
     rows = []
     stack = [((), start)]
     while stack:
         jam, morning = stack.pop()
-        if field.has(surviving[jam] & ~done[jam], morning):
+        if field.has(game.outlook.surviving(jam) & ~done[jam], morning):
             evenings = game.outlook.walked(field.alone(morning), jam)
             done[jam] = done[jam] | evenings
             for evening in field.listed(evenings):
-                sluice = next_jam(game, mornings, surviving, jam, evening)
+                sluice = next_jam(game, mornings, jam, evening)
                 rows.append((jam, evening, sluice))
                 stack.append((larger(jam, sluice), evening))
     return tuple(sorted(rows))

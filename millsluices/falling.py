@@ -37,7 +37,7 @@ def crowds_by_number(year, rows):
 
 def all_fall(year, index, crowd, left):
     """Tell whether the settings of the crowd run in the season, but none stays if this is left of the seasons."""
-    return crowd == 0 or (crowd & ~year.grounds[index] == 0 and crowd & year.staying(index, left) == 0)
+    return crowd & ~year.grounds[index] == 0 and crowd & year.staying(index, left) == 0
 
 
 def is_fall_table(calendar, rows, *, notice=True, turns=None):

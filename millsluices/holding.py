@@ -85,7 +85,8 @@ def is_hold_table(season, setting, foes, rows, *, most=1, turns=None, shared=Fal
     siege = Siege(season, foes, most, turns, shared)
     field = siege.field
     mornings = field.crowd([morning for morning, _ in rows])
-    if mornings & ~siege.ground != 0 or not field.has(mornings, start):
+    if not field.has(mornings, start):
         return False
     calm = siege.calm(mornings)
+    # No day begins with a morning that does not run.
     return all([field.has(siege.daily(field.alone(morning)) & calm, evening) for morning, evening in rows])

@@ -22,8 +22,8 @@ class Year:
         return self.field.ball(crowd, self.grounds[index], self.calendar.seasons[index].unset, self.bound)
 
     def goals(self, index, table):
-        """Return for each following season the settings of the table in which this season can be left for it."""
-        return [self.grounds[index] & self.grounds[later] & table[later] for later in self.calendar.follows[index]]
+        """Return for each following season the settings of the table in which it can be begun."""
+        return [self.grounds[later] & table[later] for later in self.calendar.follows[index]]
 
     def staying(self, index, table):
         """Return the crowd of the settings of the season that meet the condition of a lasting table."""

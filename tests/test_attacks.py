@@ -83,6 +83,26 @@ class AttackTest(unittest.TestCase):
         for size in range(3):
             self.assertIs(is_attack_table(rows=[row for row in rows if len(row[0]) != size], most=3, **same), False)
 
+    def test_jams_in_another_order(self):
+        # The first jam is that of the last sluice, so a larger jam may stand before a smaller one in the order.
+        season = Season(Valley(2, [(0, 1)] * 4))
+        wishes = [Season(season.valley, needs=[2, 0]), Season(season.valley, needs=[0, 4])]
+        rows = [(tuple(sorted(3 - number for number in jam)), evening[::-1], 3 - sluice)
+                for jam, evening, sluice in attack_table(season, wishes, (0,) * 4, most=3)]
+        self.assertTrue({((), 3), ((3,), 2), ((2, 3), 1)} <= {(jam, sluice) for jam, _, sluice in rows})
+        self.assertIs(is_attack_table(season, wishes, (0,) * 4, rows, most=3), True)
+
+    def test_no_night_is_wasted(self):
+        # The jam of sluice 0 does not matter to the wishes; three other jams are needed.
+        season = Season(Valley(4, [(2, 3)] + [(0, 1)] * 4))
+        wishes = [Season(season.valley, needs=[2, 0, 0, 0]), Season(season.valley, needs=[0, 4, 0, 0])]
+        self.assertIsNone(attack_table(season, wishes, (0,) * 5, most=2))
+        rows = attack_table(season, wishes, (0,) * 5, most=3)
+        self.assertIs(is_attack_table(season, wishes, (0,) * 5, rows, most=3), True)
+        self.assertTrue(plain_is_table(season, wishes, (0,) * 5, rows, 3))
+        wasted = [(jam, evening, sluice if jam else 0) for jam, evening, sluice in rows]
+        self.assertIs(is_attack_table(season, wishes, (0,) * 5, wasted, most=3), False)
+
     def test_errors_and_their_order(self):
         other = Season(Valley.ring(4))
         for call in (lambda wishes, setting: attack_table(WIDE, wishes, setting, most=1),
