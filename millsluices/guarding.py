@@ -1,27 +1,31 @@
 """Guards: which turns of the miller must be forbidden, so that no turn of a foe does harm."""
 
 from millsluices.fields import Field
-from millsluices.helpers import distinct
+from millsluices.habits import habit_states
+from millsluices.harms import is_closed, reach_within
 from millsluices.settings import turned
 
 
+def threats(habit, foes):
+    """Return the moves of the habit by which foes turn sluices."""
+    return [move for move in habit.moves if move[1] in foes]
+
+
 def guarded_crowds(season, habit, foes):
-    """Return a dict with the crowd of the settings that are guarded in each state, ascending."""
+    """Return a dict with the crowd of the settings that are guarded in each state of the habit."""
     field = Field(season.valley)
     ground = field.runners(season)
-    states = distinct([0, *[move[0] for move in habit.moves], *[move[2] for move in habit.moves]])
-    crowds = {place: ground for place in states}
-    threats = [move for move in habit.moves if move[1] in foes]
+    crowds = {place: ground for place in habit_states(habit)}
     old = {}
     while crowds != old:
         old = {place: crowds[place] for place in crowds}
-        for state, sluice, after in threats:
+        for state, sluice, after in threats(habit, foes):
             crowds[state] = crowds[state] & field.swapped(crowds[after], sluice)
     return crowds
 
 
 def guarded_dict(season, habit, foes):
-    """Return a dict that has the guarded pairs as its keys; of states without moves only those that moves lead to."""
+    """Return a dict that has the guarded pairs with the states of the habit as its keys."""
     field = Field(season.valley)
     crowds = guarded_crowds(season, habit, foes)
     return {(setting, state): True for state, crowd in crowds.items() for setting in field.listed(crowd)}
@@ -32,17 +36,9 @@ def guarded(season, habit, foes):
     return tuple(sorted(list(guarded_dict(season, habit, foes))))
 
 
-def guarded_pair(season, habit, foes, pairs, pair):
-    """Tell whether the setting of the pair runs and all moves of foes from the pair lead to pairs."""
-    setting, state = pair
-    return setting in season and all([(turned(setting, (sluice,)), after) in pairs
-                                      for sluice, after in habit.leaving(state) if sluice in foes])
-
-
 def is_guard_table(season, habit, foes, table):
     """Tell whether the table is a guard table."""
-    pairs = {(tuple(row[0]), row[1]): True for row in table}
-    return all([guarded_pair(season, habit, foes, pairs, pair) for pair in pairs])
+    return is_closed(season, threats(habit, foes), table)
 
 
 def guard_lets(season, habit, foes, setting, state):
@@ -56,15 +52,4 @@ def guard_lets(season, habit, foes, setting, state):
 
 def guarded_reach(season, habit, foes, setting):
     """Return the pairs that can be reached while the guard forbids what does not lead to a guarded pair."""
-    pairs = guarded_dict(season, habit, foes)
-    start = (tuple(setting), 0)
-    found = {start: True} if start in pairs else {}
-    stack = list(found)
-    while stack:
-        present, state = stack.pop()
-        for sluice, later in habit.leaving(state):
-            after = (turned(present, (sluice,)), later)
-            if after in pairs and after not in found:
-                found[after] = True
-                stack.append(after)
-    return tuple(sorted(list(found)))
+    return reach_within(habit, (tuple(setting), 0), guarded_dict(season, habit, foes))

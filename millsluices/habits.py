@@ -1,6 +1,7 @@
 """Habits: which turns may follow one another."""
 
 from millsluices.errors import BadMove
+from millsluices.helpers import distinct
 
 
 class Habit:
@@ -33,3 +34,8 @@ class Habit:
     def leaving(self, state):
         """Return the pairs of sluices that may be turned in the state and the states after it, ascending."""
         return [(sluice, after) for origin, sluice, after in self.moves if origin == state]
+
+
+def habit_states(habit):
+    """Return state 0 and all states that occur in the moves of the habit, ascending."""
+    return distinct([0, *[move[0] for move in habit.moves], *[move[2] for move in habit.moves]])

@@ -1,6 +1,7 @@
 """Harm: turns that a habit lets although they are no walk."""
 
 from millsluices.fields import running_settings
+from millsluices.habits import habit_states
 from millsluices.settings import turned
 from millsluices.walks import as_running
 
@@ -39,30 +40,37 @@ def harm(season, setting, habit):
     return None
 
 
-def harmless_pair(season, habit, pairs, pair):
-    """Tell whether the setting of the pair runs and all moves from the pair lead to pairs."""
-    setting, state = pair
-    return setting in season and all([(turned(setting, (sluice,)), after) in pairs
-                                      for sluice, after in habit.leaving(state)])
+def is_closed(season, moves, table):
+    """Tell whether all settings of the table run, and the moves lead from its pairs to its pairs alone."""
+    pairs = {(tuple(row[0]), row[1]): True for row in table}
+    afters = [(turned(setting, (sluice,)), after) for setting, state in pairs
+              for origin, sluice, after in moves if origin == state]
+    return all([pair[0] in season for pair in pairs]) and all([pair in pairs for pair in afters])
 
 
 def is_harmless_table(season, setting, habit, table):
     """Tell whether the table is a harmless table for the setting."""
-    pairs = {(tuple(row[0]), row[1]): True for row in table}
-    return (tuple(setting), 0) in pairs and all([harmless_pair(season, habit, pairs, pair) for pair in pairs])
+    has_start = any([tuple(row[0]) == tuple(setting) and row[1] == 0 for row in table])
+    return has_start and is_closed(season, habit.moves, table)
+
+
+def reach_within(habit, start, pairs):
+    """Return the pairs to which moves lead from the start without leaving the pairs; none if it is not among them."""
+    found = {start: True} if start in pairs else {}
+    stack = list(found)
+    while stack:
+        present, state = stack.pop()
+        for sluice, later in habit.leaving(state):
+            after = (turned(present, (sluice,)), later)
+            if after in pairs and after not in found:
+                found[after] = True
+                stack.append(after)
+    return tuple(sorted(list(found)))
 
 
 def reached_pairs(season, setting, habit):
     """Return the pairs of settings and states to which the walks lead that the habit lets."""
     start = as_running(season, setting)
-    allowed = running_settings(season)
-    found = {(start, 0): True}
-    stack = [(start, 0)]
-    while stack:
-        present, state = stack.pop()
-        for sluice, later in habit.leaving(state):
-            after = (turned(present, (sluice,)), later)
-            if after[0] in allowed and after not in found:
-                found[after] = True
-                stack.append(after)
-    return tuple(sorted(list(found)))
+    states = habit_states(habit)
+    pairs = {(member, state): True for member in running_settings(season) for state in states}
+    return reach_within(habit, (start, 0), pairs)
