@@ -4,6 +4,8 @@ The settings are numbered in their order. A crowd is a set of them, written as a
 belongs to it. So a turn of all settings of a crowd at once takes a few shifts.
 """
 
+from millsluices.settings import turned
+
 
 def halves(size, sluice):
     """Return the crowd of the settings in which the sluice has side 0, and that in which it has side 1."""
@@ -82,6 +84,33 @@ class Field:
             found = more
             made += 1
         return found
+
+    def rings(self, crowd, ground, sluices):
+        """Return a list of the crowds of what at most 0, 1, 2 .. turns make of the crowd without leaving the ground."""
+        found = [crowd & ground]
+        more = self.ball(crowd, ground, sluices, 1)
+        while more != found[-1]:
+            found.append(more)
+            more = self.ball(more, ground, sluices, 1)
+        return found
+
+    def nearer(self, rings, sluices, setting):
+        """Return the first of the sluices whose turn leads the setting nearer to the innermost ring.
+
+        The setting is in one of the rings, but not in the innermost one.
+        """
+        far = min([turns for turns, crowd in enumerate(rings) if self.has(crowd, setting)])
+        good = [sluice for sluice in sluices if self.has(rings[far - 1], turned(setting, (sluice,)))]
+        return good[0]
+
+    def way(self, rings, sluices, setting):
+        """Return a shortest walk that leads the setting to the innermost ring."""
+        turns = []
+        present = setting
+        while not self.has(rings[0], present):
+            turns.append(self.nearer(rings, sluices, present))
+            present = turned(setting, turns)
+        return tuple(turns)
 
     def feeding(self, valley, mill):
         """Return a list with the crowd of the settings in which 0, 1, 2 .. sluices feed the mill."""

@@ -85,26 +85,6 @@ def is_plan(season, wish, setting, plan, *, most):
     return True
 
 
-def rings(field, ground, goal, sluices):
-    """Return a list of the crowds from which at most 0, 1, 2 .. turns of the sluices lead to the goal."""
-    found = [ground & goal]
-    more = field.ball(goal, ground, sluices, 1)
-    while more != found[-1]:
-        found.append(more)
-        more = field.ball(more, ground, sluices, 1)
-    return found
-
-
-def nearer(field, crowds, sluices, setting):
-    """Return the first of the sluices whose turn leads to a setting that is nearer to the goal.
-
-    The setting is in one of the crowds, but not in the first one.
-    """
-    far = min([turns for turns, crowd in enumerate(crowds) if field.has(crowd, setting)])
-    good = [sluice for sluice in sluices if field.has(crowds[far - 1], turned(setting, (sluice,)))]
-    return good[0]
-
-
 def find_plan(season, wish, setting, *, most):
     """Return a plan that leads to a setting that runs in the wish, whichever sluices are jammed; or None."""
     start = checked_start(season, (wish,), setting)
@@ -119,11 +99,11 @@ def find_plan(season, wish, setting, *, most):
         present, known = place
         free = [sluice for sluice in season.unset if sluice not in known]
         if known not in crowds:
-            crowds[known] = rings(field, ground, goal, free)
+            crowds[known] = field.rings(goal, ground, free)
         if not field.has(crowds[known][-1], present):
             return None
         if place not in rows and not field.has(crowds[known][0], present):
-            tried = nearer(field, crowds[known], free, present)
+            tried = field.nearer(crowds[known], free, present)
             rows[place] = tried
             stack.append((turned(present, (tried,)), known))
             if len(known) < most:

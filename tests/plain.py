@@ -5,6 +5,7 @@ import random
 
 from millsluices.seasons import Season
 from millsluices.valleys import Valley
+from millsluices.watches import Watch
 
 
 def all_settings(valley):
@@ -282,3 +283,101 @@ def let_rows(moves, longest):
                  for origin, sluice in sorted(table) if origin == state]
         found += level
     return found
+
+
+def random_watch(rng, most_sluices=4, most_reports=3):
+    """A watch of a random valley; some of its reports tell much, others little."""
+    mills, size = rng.choice((1, 2, 2, 3, 3, 4)), rng.randint(1, most_sluices)
+    valley = Valley(mills, [rng.sample(range(mills), 2) for _ in range(size)] if mills > 1 else ())
+    size = len(valley)
+    rule = random_season(rng, valley=valley, tight=0.2)
+    if rng.random() < 0.5:
+        rule = Season(valley, needs=[max(0, need - 1) for need in rule.needs])
+    reports = []
+    for wish in random_wishes(rng, rule, rng.randint(1, most_reports)):
+        seen = [sluice for sluice in range(size) if rng.random() < 0.6]
+        pinned = Season(valley).pinned([rng.randint(0, 1) for _ in range(size)], seen)
+        reports.append(rng.choice((wish, pinned, pinned, Season(valley))))
+    return Watch(rule, reports, turns=rng.choice((None, None, 0, 1, 2, 2, 3, 10 ** 20)))
+
+
+def seen_on(watch, day):
+    return [setting for setting in all_running(watch.rule) if runs(watch.reports[day], setting)]
+
+
+def day_chains(watch):
+    """The settings on all days, for all histories of the watch."""
+    chains = [(setting,) for setting in seen_on(watch, 0)]
+    for day in range(1, len(watch.reports)):
+        seen = seen_on(watch, day)
+        reach = {chain[-1]: ball(watch.rule, chain[-1], watch.turns) for chain in chains}
+        chains = [(*chain, after) for chain in chains for after in seen if after in reach[chain[-1]]]
+    return chains
+
+
+def plain_is_history(watch, history):
+    first, nights = history
+    days = [tuple(first)]
+    for night in nights:
+        if not walkable(watch.rule, days[-1], night) or (watch.turns is not None and len(night) > watch.turns):
+            return False
+        days.append(flips(days[-1], night))
+    return len(days) == len(watch.reports) and all(setting in seen_on(watch, day) for day, setting in enumerate(days))
+
+
+def random_rows(rng, size, hands=3, turns=3):
+    """For each hand some turns, often of the same sluices."""
+    sluices = list(range(size))
+    few = rng.sample(sluices, min(size, 3))
+    return [[rng.choice(few if rng.random() < 0.7 else sluices) for _ in range(rng.randint(0, turns))] if size else []
+            for _ in range(rng.randint(1, hands))]
+
+
+def weavings(rows):
+    """All weavings of the rows, whole or not, in the order by size."""
+    level, found = [()], []
+    while level:
+        found += level
+        level = [(*weaving, hand) for weaving in level for hand, turns in enumerate(rows)
+                 if weaving.count(hand) < len(turns)]
+    return found
+
+
+def is_whole(rows, weaving):
+    return all(weaving.count(hand) == len(turns) for hand, turns in enumerate(rows))
+
+
+def woven(rows, weaving):
+    """The turns of the weaving."""
+    made = [0] * len(rows)
+    turns = []
+    for hand in weaving:
+        turns.append(rows[hand][made[hand]])
+        made[hand] += 1
+    return turns
+
+
+def all_loose(season):
+    """Whether in every running setting each unset sluice is turned by some walk; there must be such a setting."""
+    members = class_list(season)
+    return bool(members) and all(len({setting[sluice] for setting in group}) == 2
+                                 for group in members for sluice in unset_sluices(season))
+
+
+def random_open_season(rng, most_mills=4, most_sluices=6, lack=0):
+    """A season without limits, in which each sluice may have a side; `lack` is how much more than that is needed."""
+    mills = rng.randint(2, most_mills)
+    valley = Valley(mills, [rng.sample(range(mills), 2) for _ in range(rng.randint(0, most_sluices))])
+    sides = [(0, 1) if rng.random() < 0.8 else rng.choice(((0,), (1,))) for _ in valley.sluices]
+    needs = list(counts(valley, [rng.choice(let) for let in sides]))
+    for _ in range(rng.randint(0, 2)):
+        mill = rng.randrange(mills)
+        needs[mill] = max(0, needs[mill] - 1)
+    for _ in range(rng.randint(0, lack)):
+        needs[rng.randrange(mills)] += 1
+    return Season(valley, needs=needs, sides=sides)
+
+
+def all_pairs(mills):
+    """All pairs that new sluices may have; which of the two mills is named first makes no difference."""
+    return list(itertools.combinations(range(mills), 2))

@@ -5,16 +5,18 @@ import inspect
 import random
 import unittest
 
-from millsluices import (attacks, blockades, buying, calendars, classes, connections, detours, distances, evenings,
-                         falling, fits, guarding, habits, harms, holding, jams, lasting, lots, nights, orders, outs,
-                         partings, plans, rests, running, seasons, settings, shortest, storms, stuckness, sureness,
-                         tightness, timetables, unity, valleys, walks, winning)
+from millsluices import (attacks, blockades, building, buying, calendars, classes, connections, detours, distances,
+                         evenings, falling, fits, freeing, guarding, habits, harms, hearing, holding, jams, lasting,
+                         loosening, lots, nights, nightturns, orders, outs, partings, plans, possible, rests, running,
+                         seasons, settings, shortest, storms, stuckness, sureness, tightness, timetables, unity,
+                         valleys, verdicts, waits, walks, watches, weaving, winning)
 from millsluices.calendars import Calendar
 from millsluices.errors import NothingRuns, NotRunning
 from millsluices.habits import Habit
 from millsluices.plans import Plan
 from millsluices.seasons import Season
 from millsluices.valleys import Valley
+from millsluices.watches import Watch
 from plain import as_lists, only_tuples
 
 RING = Valley.ring(3)
@@ -41,6 +43,11 @@ MOVES = ((0, 0, 0), (0, 1, 0), (0, 2, 1), (1, 2, 0))
 HABIT, MILD = Habit(MOVES), Habit(((0, 2, 1), (1, 2, 0)))
 PAIRS = ((ZERO, 0), (UP, 1))
 GUARDED = guarding.guarded(LOW, HABIT, (2,))
+WATCH = Watch(LOW, (Season.only(RING, ZERO), Season(RING, limits=(1, None, 0))))
+WISH_LOW = Season(RING, needs=(0, 2, 0))
+OPEN = Watch(LOW, (Season(RING), LATER, Season(RING)), turns=1)
+NEEDY = Season(RING, needs=(1, 0, 0))
+WOVEN = ((0,), (2, 2))
 
 # Each row has what is called, its arguments in their order by name, and those of them that are sets or tables.
 CALLS = [
@@ -182,11 +189,40 @@ CALLS = [
     (guarding.guard_lets, {"season": LOW, "habit": HABIT, "foes": (2, 1), "setting": UP, "state": 0}, ("foes",)),
     (guarding.guarded_reach, {"season": LOW, "habit": HABIT, "foes": (2,), "setting": UP}, ("foes",)),
     (partings.parting_row, {"season": LOW, "setting": UP, "one": HABIT, "two": MILD}, ()),
+    (watches.Watch, {"rule": LOW, "reports": (FULL, LATER), "turns": 2}, ()),
+    (watches.is_history, {"watch": WATCH, "history": (ZERO, ((2, 0),))}, ()),
+    (watches.day_settings, {"history": (ZERO, ((2, 0), (), (1,)))}, ()),
+    (possible.possible, {"watch": OPEN, "day": 1}, ()),
+    (possible.history_through, {"watch": OPEN, "day": 1, "setting": ZERO}, ()),
+    (verdicts.verdict, {"watch": OPEN, "day": 2, "claim": WISH_LOW}, ()),
+    (nightturns.least_turns, {"watch": WATCH}, ()),
+    (nightturns.least_history, {"watch": WATCH}, ()),
+    (nightturns.surely_turned, {"watch": WATCH}, ()),
+    (nightturns.never_turned, {"watch": OPEN}, ()),
+    (hearing.tells, {"watch": OPEN, "day": 0, "lot": (0, 1), "claim": LATER}, ("lot",)),
+    (hearing.blind_pair, {"watch": OPEN, "day": 0, "lot": (0,), "claim": WISH_LOW}, ("lot",)),
+    (hearing.fewest_heard, {"watch": OPEN, "day": 0, "claim": LATER}, ()),
+    (weaving.setting_at, {"setting": UP, "rows": WOVEN, "position": (1, 1)}, ()),
+    (weaving.always_safe, {"season": NEEDY, "setting": UP, "rows": WOVEN}, ()),
+    (weaving.bad_weaving, {"season": NEEDY, "setting": UP, "rows": WOVEN}, ()),
+    (weaving.safe_weaving, {"season": NEEDY, "setting": UP, "rows": WOVEN}, ()),
+    (weaving.weaving_count, {"season": NEEDY, "setting": UP, "rows": WOVEN}, ()),
+    (waits.secures, {"season": NEEDY, "setting": UP, "rows": WOVEN, "waits": ((0, 0, 1, 1), (0, 0, 1, 2))},
+     ("waits",)),
+    (waits.waits_for, {"season": NEEDY, "setting": UP, "rows": WOVEN}, ()),
+    (waits.fewest_waits, {"season": NEEDY, "setting": UP, "rows": WOVEN}, ()),
+    (building.shortfall, {"season": Season(RING, needs=(2, 2, 1))}, ()),
+    (building.wanting_lot, {"season": Season(RING, needs=(2, 2, 1))}, ()),
+    (building.mending, {"season": Season(RING, needs=(2, 2, 1))}, ()),
+    (freeing.least_tight_lots, {"season": FULL}, ()),
+    (freeing.freeing, {"season": FULL}, ()),
+    (loosening.loosenings, {"season": FULL & Season(RING, limits=(1, 1, 1))}, ()),
+    (loosening.loosening_count, {"season": FULL & Season(RING, limits=(1, 1, 1))}, ()),
 ]
 
 # What can be read of the objects that callers create.
 FIELDS = {Valley: ("mills", "sluices"), Season: ("valley", "needs", "limits", "sides"), Plan: ("rows",),
-          Calendar: ("seasons", "follows"), Habit: ("moves",)}
+          Calendar: ("seasons", "follows"), Habit: ("moves",), Watch: ("rule", "reports", "turns")}
 
 
 def fields(value):

@@ -2,6 +2,7 @@
 
 import unittest
 
+from millsluices.building import shortfall
 from millsluices.calendars import Calendar
 from millsluices.classes import class_key, classes
 from millsluices.connections import connect
@@ -16,11 +17,14 @@ from millsluices.harms import harm, reached_pairs
 from millsluices.holding import is_hold_table
 from millsluices.jams import fatal_jams, jam_strength, stoutest
 from millsluices.lasting import lasting
+from millsluices.loosening import loosening_count
 from millsluices.lots import gain, load
 from millsluices.nights import braced, nights
+from millsluices.nightturns import least_turns, never_turned, surely_turned
 from millsluices.orders import bad_order, some_order
 from millsluices.outs import greatest_out, outs_needed
 from millsluices.plans import Plan, follow_plan, is_plan
+from millsluices.possible import possible
 from millsluices.rests import fewest_rests, least_rests, must_rest
 from millsluices.running import obstacle, running
 from millsluices.seasons import Season
@@ -31,7 +35,11 @@ from millsluices.sureness import sure_sides, tightened
 from millsluices.tightness import greatest_tight_below
 from millsluices.timetables import timetable
 from millsluices.valleys import Valley
+from millsluices.verdicts import verdict
+from millsluices.waits import fewest_waits
 from millsluices.walks import follow, turnable
+from millsluices.watches import Watch
+from millsluices.weaving import bad_weaving, safe_weaving
 
 
 class ExamplesTest(unittest.TestCase):
@@ -43,6 +51,8 @@ class ExamplesTest(unittest.TestCase):
     wish = Season(wide.valley, needs=[1, 2, 1])
     zero = (0, 0, 0, 0)
     year = Calendar.yearly([Season(ring, needs=[1, 1, 0]), Season(ring, needs=[0, 1, 1])])
+
+    watch = Watch(Season(ring, needs=[1, 1, 0]), [Season.only(ring, (0, 0, 0)), Season(ring, limits=[1, None, 0])])
 
     def test_valleys(self):
         self.assertEqual(self.ring.sluices, ((0, 1), (1, 2), (2, 0)))
@@ -163,6 +173,23 @@ class ExamplesTest(unittest.TestCase):
     def test_guarding(self):
         self.assertEqual(guarded_reach(self.low, Habit([(0, 0, 0), (0, 1, 0), (0, 2, 0)]), [0], (0, 0, 1)),
                          (((0, 0, 1), 0), ((1, 0, 1), 0)))
+
+    def test_what_was_seen(self):
+        self.assertEqual(possible(self.watch, 1), ((1, 0, 1),))
+        self.assertEqual(verdict(self.watch, 1, Season(self.ring, needs=[0, 2, 0])).word, "sure")
+        self.assertEqual((least_turns(self.watch), surely_turned(self.watch), never_turned(self.watch)),
+                         (2, (0, 2), ()))
+
+    def test_several_hands(self):
+        season = Season(self.ring, needs=[1, 0, 0])
+        self.assertEqual(bad_weaving(season, (0, 0, 1), [[0], [2, 2]]), (0, 1))
+        self.assertEqual(safe_weaving(season, (0, 0, 1), [[0], [2, 2]]), (1, 1, 0))
+        self.assertEqual(fewest_waits(season, (0, 0, 1), [[0], [2, 2]]), ((0, 0, 1, 2),))
+
+    def test_building_and_loosening(self):
+        self.assertEqual(shortfall(Season(self.ring, needs=[2, 2, 1])), 2)
+        self.assertEqual(loosening_count(self.season), 1)
+        self.assertEqual(loosening_count(self.season & Season(self.ring, limits=[1, 1, 1])), 3)
 
 
 if __name__ == "__main__":

@@ -66,6 +66,20 @@ FUNCTIONS = {
     "guarding": ["guarded(season, habit, foes)", "is_guard_table(season, habit, foes, table)",
                  "guard_lets(season, habit, foes, setting, state)", "guarded_reach(season, habit, foes, setting)"],
     "partings": ["parting_row(season, setting, one, two)"],
+    "watches": ["is_history(watch, history)", "day_settings(history)"],
+    "possible": ["possible(watch, day)", "history_through(watch, day, setting)"],
+    "verdicts": ["verdict(watch, day, claim)"],
+    "nightturns": ["least_turns(watch)", "least_history(watch)", "surely_turned(watch)", "never_turned(watch)"],
+    "hearing": ["tells(watch, day, lot, claim)", "blind_pair(watch, day, lot, claim)",
+                "fewest_heard(watch, day, claim)"],
+    "weaving": ["setting_at(setting, rows, position)", "always_safe(season, setting, rows)",
+                "bad_weaving(season, setting, rows)", "safe_weaving(season, setting, rows)",
+                "weaving_count(season, setting, rows)"],
+    "waits": ["secures(season, setting, rows, waits)", "waits_for(season, setting, rows)",
+              "fewest_waits(season, setting, rows)"],
+    "building": ["shortfall(season)", "wanting_lot(season)", "mending(season)"],
+    "freeing": ["least_tight_lots(season)", "freeing(season)"],
+    "loosening": ["loosenings(season)", "loosening_count(season)"],
 }
 METHODS = {
     ("valleys", "Valley"): ["__init__(self, mills, sluices=())", "touching(self, mill)", "other(self, sluice, mill)",
@@ -77,6 +91,7 @@ METHODS = {
     ("plans", "Plan"): ["__init__(self, rows)", "__call__(self, setting, known)"],
     ("calendars", "Calendar"): ["__init__(self, seasons, follows)", "yearly(seasons)"],
     ("habits", "Habit"): ["__init__(self, moves)", "after(self, state, sluice)", "state_after(self, turns)"],
+    ("watches", "Watch"): ["__init__(self, rule, reports, *, turns=None)"],
 }
 OTHERS = {
     ("valleys", "Valley"): ["parts", "__add__", "__len__", "__iter__", "__eq__"],
@@ -88,6 +103,8 @@ OTHERS = {
     ("calendars", "Calendar"): ["__len__", "__iter__", "__eq__"],
     ("timetables", "Timetable"): [],
     ("habits", "Habit"): ["__eq__"],
+    ("watches", "Watch"): ["__add__", "__len__", "__iter__", "__eq__"],
+    ("verdicts", "Verdict"): [],
 }
 GENERATORS = ("settings", "running", "classes", "least_rests", "fatal_jams")
 
