@@ -381,3 +381,24 @@ def random_open_season(rng, most_mills=4, most_sluices=6, lack=0):
 def all_pairs(mills):
     """All pairs that new sluices may have; which of the two mills is named first makes no difference."""
     return list(itertools.combinations(range(mills), 2))
+
+
+def plain_try(season, setting, sluice):
+    """The setting after a try, and the answer."""
+    after = flip(setting, sluice)
+    return (after, True) if runs(season, after) else (setting, False)
+
+
+def told_apart(season, settings):
+    """All pairs of the running settings that some tries tell apart, with the least number of tries."""
+    size = len(season.valley)
+    steps = {setting: [plain_try(season, setting, sluice) for sluice in range(size)] for setting in settings}
+    found, number = {}, 1
+    while True:
+        new = [(one, two) for one in settings for two in settings if (one, two) not in found
+               and any(steps[one][at][1] != steps[two][at][1] or (steps[one][at][0], steps[two][at][0]) in found
+                       for at in range(size))]
+        if not new:
+            return found
+        found.update((pair, number) for pair in new)
+        number += 1

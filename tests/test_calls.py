@@ -5,11 +5,12 @@ import inspect
 import random
 import unittest
 
-from millsluices import (attacks, blockades, building, buying, calendars, classes, connections, detours, distances,
-                         evenings, falling, fits, freeing, guarding, habits, harms, hearing, holding, jams, lasting,
-                         loosening, lots, nights, nightturns, orders, outs, partings, plans, possible, rests, running,
-                         seasons, settings, shortest, storms, stuckness, sureness, tightness, timetables, unity,
-                         valleys, verdicts, waits, walks, watches, weaving, winning)
+from millsluices import (attacks, blockades, building, buying, calendars, catches, chances, classes, connections,
+                         daybooks, detours, distances, evenings, falling, fits, freeing, groping, guarding, habits,
+                         harms, hearing, holding, jams, lasting, longnotes, loosening, lots, nights, nightturns, orders,
+                         outs, partings, plans, possible, rests, rounds, running, seasonnotes, seasons, settings,
+                         shortest, sparing, storms, stuckness, sureness, telling, tightness, timetables, unity, valleys,
+                         verdicts, waits, walknotes, walks, watches, weaving, winning)
 from millsluices.calendars import Calendar
 from millsluices.errors import NothingRuns, NotRunning
 from millsluices.habits import Habit
@@ -48,6 +49,23 @@ WISH_LOW = Season(RING, needs=(0, 2, 0))
 OPEN = Watch(LOW, (Season(RING), LATER, Season(RING)), turns=1)
 NEEDY = Season(RING, needs=(1, 0, 0))
 WOVEN = ((0,), (2, 2))
+ALIKE = ((ZERO, ZERO), (ZERO, ONE), (ONE, ONE))
+THREE = (ZERO, UP, ONE)
+GROPING = ((THREE, 0), ((ZERO, ONE), 1))
+
+
+def entered(deed):
+    """The daybook after the deed."""
+    book = daybooks.Daybook(LOW, ZERO)
+    book.enter(deed)
+    return book
+
+
+def performed(program):
+    """The result of the program, and the daybook after it."""
+    book = daybooks.Daybook(LOW, ZERO)
+    return daybooks.perform(book, program), book
+
 
 # Each row has what is called, its arguments in their order by name, and those of them that are sets or tables.
 CALLS = [
@@ -218,11 +236,45 @@ CALLS = [
     (freeing.freeing, {"season": FULL}, ()),
     (loosening.loosenings, {"season": FULL & Season(RING, limits=(1, 1, 1))}, ()),
     (loosening.loosening_count, {"season": FULL & Season(RING, limits=(1, 1, 1))}, ()),
+    (sparing.closable, {"season": LOW}, ()),
+    (sparing.cleanable, {"season": LOW, "setting": UP}, ()),
+    (chances.share, {"season": LOW, "setting": UP, "wish": LATER}, ()),
+    (chances.chance, {"season": LOW, "setting": UP, "wish": LATER, "hours": 3}, ()),
+    (daybooks.Daybook, {"season": LOW, "setting": UP}, ()),
+    (entered, {"deed": ("walk", (2, 0))}, ()),
+    (entered, {"deed": ("jam", (2, 0, 2))}, ()),
+    (entered, {"deed": ("go", ONE)}, ()),
+    (performed, {"program": (("turn", 2), ("trial", (("jam", (1, 0)), ("undo",), ("walk", (0, 1)))), ("undo",))}, ()),
+    (seasonnotes.format_season, {"season": LATER.pinned(ONE, (0,))}, ()),
+    (seasonnotes.parse_season, {"text": "mills 3\nsluice 0 1 side 1\nsluice 2 1\nneed 1 2\nlimit 2 0"}, ()),
+    (walknotes.format_setting, {"setting": UP}, ()),
+    (walknotes.parse_setting, {"valley": RING, "text": "011"}, ()),
+    (walknotes.format_turns, {"turns": (2, 0, 2)}, ()),
+    (walknotes.parse_turns, {"valley": RING, "text": "2 0 2"}, ()),
+    (longnotes.format_history, {"history": (ZERO, ((2, 0), (), (1,)))}, ()),
+    (longnotes.parse_history, {"valley": RING, "text": "001\n2 0\n"}, ()),
+    (longnotes.format_plan, {"plan": PLAN}, ()),
+    (longnotes.parse_plan, {"valley": RING, "text": "001 - 1\n010 0,2 1"}, ()),
+    (rounds.safe_rounds, {"season": NEEDY, "setting": UP, "hands": 2}, ()),
+    (rounds.are_rounds, {"season": Season(RING), "setting": UP, "rounds": ((0, 1), (2,)), "hands": 2}, ()),
+    (rounds.fewest_rounds, {"season": NEEDY, "one": ZERO, "two": ONE, "hands": None}, ()),
+    (rounds.first_rounds, {"season": NEEDY, "one": ZERO, "two": ONE, "hands": 2}, ()),
+    (catches.tried, {"season": LOW, "setting": ZERO, "tries": (0, 2, 0)}, ()),
+    (telling.telling_tries, {"season": LOW, "one": ZERO, "two": ONE}, ()),
+    (telling.alike_groups, {"season": FULL}, ()),
+    (telling.is_alike_table, {"season": FULL, "table": ALIKE}, ("table",)),
+    (groping.remaining, {"season": LOW, "candidates": THREE, "tries": (0, 1), "answers": (False, False)},
+     ("candidates",)),
+    (groping.follow_groping, {"season": LOW, "plan": GROPING, "candidates": THREE, "setting": ONE}, ("candidates",)),
+    (groping.is_groping_plan, {"season": LOW, "candidates": THREE, "plan": GROPING}, ("candidates", "plan")),
+    (groping.fewest_tries, {"season": LOW, "candidates": THREE}, ("candidates",)),
+    (groping.groping_plan, {"season": LOW, "candidates": THREE}, ("candidates",)),
 ]
 
 # What can be read of the objects that callers create.
 FIELDS = {Valley: ("mills", "sluices"), Season: ("valley", "needs", "limits", "sides"), Plan: ("rows",),
-          Calendar: ("seasons", "follows"), Habit: ("moves",), Watch: ("rule", "reports", "turns")}
+          Calendar: ("seasons", "follows"), Habit: ("moves",), Watch: ("rule", "reports", "turns"),
+          daybooks.Daybook: ("season", "setting", "jam", "deeds")}
 
 
 def fields(value):
@@ -273,7 +325,7 @@ class CallsTest(unittest.TestCase):
                 words.update(named_alone(call))
                 with self.subTest(call), self.assertRaises(TypeError):
                     outcome(call, *named.values())
-        self.assertTrue({"prices", "most", "notice", "turns", "shared"} <= words)
+        self.assertTrue({"prices", "most", "notice", "turns", "shared", "hands"} <= words)
 
     def test_tuples_at_every_level_are_returned(self):
         for call, named, _ in CALLS:

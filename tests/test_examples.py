@@ -4,19 +4,24 @@ import unittest
 
 from millsluices.building import shortfall
 from millsluices.calendars import Calendar
+from millsluices.catches import tried
+from millsluices.chances import chance, share
 from millsluices.classes import class_key, classes
 from millsluices.connections import connect
+from millsluices.daybooks import Daybook, perform
 from millsluices.detours import least_detour
 from millsluices.distances import distances
-from millsluices.errors import BadWalk
+from millsluices.errors import BadNote, BadWalk
 from millsluices.falling import falls_after
 from millsluices.fits import fit
+from millsluices.groping import fewest_tries, remaining
 from millsluices.guarding import guarded_reach
 from millsluices.habits import Habit
 from millsluices.harms import harm, reached_pairs
 from millsluices.holding import is_hold_table
 from millsluices.jams import fatal_jams, jam_strength, stoutest
 from millsluices.lasting import lasting
+from millsluices.longnotes import format_plan
 from millsluices.loosening import loosening_count
 from millsluices.lots import gain, load
 from millsluices.nights import braced, nights
@@ -26,12 +31,15 @@ from millsluices.outs import greatest_out, outs_needed
 from millsluices.plans import Plan, follow_plan, is_plan
 from millsluices.possible import possible
 from millsluices.rests import fewest_rests, least_rests, must_rest
+from millsluices.rounds import fewest_rounds, first_rounds
 from millsluices.running import obstacle, running
+from millsluices.seasonnotes import format_season, parse_season
 from millsluices.seasons import Season
 from millsluices.settings import fed, turned
 from millsluices.shortest import shortest_walk
 from millsluices.stuckness import loose, starved, stuck
 from millsluices.sureness import sure_sides, tightened
+from millsluices.telling import alike_groups, telling_tries
 from millsluices.tightness import greatest_tight_below
 from millsluices.timetables import timetable
 from millsluices.valleys import Valley
@@ -190,6 +198,39 @@ class ExamplesTest(unittest.TestCase):
         self.assertEqual(shortfall(Season(self.ring, needs=[2, 2, 1])), 2)
         self.assertEqual(loosening_count(self.season), 1)
         self.assertEqual(loosening_count(self.season & Season(self.ring, limits=[1, 1, 1])), 3)
+
+    def test_chances(self):
+        self.assertEqual(share(self.low, (0, 0, 0), Season(self.ring, needs=[0, 2, 0])), (1, 4))
+        self.assertEqual(chance(self.low, (0, 0, 0), Season(self.ring, needs=[0, 2, 0]), 2), (1, 9))
+
+    def test_daybooks(self):
+        book = Daybook(self.wide, (0, 0, 0, 0))
+        program = [("turn", 3), ("jam", [3]), ("trial", [("turn", 0), ("turn", 3)]), ("undo",)]
+        self.assertEqual(perform(book, program), ("done", "done", ("WouldStop", "Jammed"), "done"))
+        self.assertEqual((book.setting, book.deeds), ((0, 0, 0, 1), (("turn", 3),)))
+
+    def test_notes(self):
+        season = Season(self.ring, needs=[1, 0, 2], limits=[None, 1, None]).pinned((0, 0, 1), [2])
+        self.assertEqual(format_season(season), "mills 3\nsluice 0 1\nsluice 1 2\nsluice 2 0 side 1\n"
+                                                "need 0 1\nneed 2 2\nlimit 1 1")
+        with self.assertRaises(BadNote) as caught:
+            parse_season("mills 2\nneed 0 1\nneed 0 2")
+        self.assertEqual(caught.exception.line, 2)
+        plan = Plan([((0, 0, 0, 0), (), 3), ((0, 0, 0, 0), (0, 3), 0)])
+        self.assertEqual(format_plan(plan), "0000 - 3\n0000 0,3 0")
+
+    def test_rounds(self):
+        self.assertEqual(first_rounds(Season(self.ring), (0, 0, 0), (1, 1, 1)), ((0, 1, 2),))
+        self.assertEqual(fewest_rounds(Season(self.ring), (0, 0, 0), (1, 1, 1), hands=2), 2)
+        self.assertEqual(fewest_rounds(self.low, (0, 0, 0), (1, 1, 1)), 3)
+
+    def test_in_the_dark(self):
+        self.assertEqual(tried(self.low, (0, 0, 0), [0, 2, 0]), ((1, 0, 1), (False, True, True)))
+        self.assertEqual(telling_tries(self.low, (0, 0, 0), (1, 1, 1)), (1,))
+        self.assertEqual(alike_groups(self.season), (((0, 0, 0), (1, 1, 1)),))
+        three = [(0, 0, 0), (0, 0, 1), (1, 1, 1)]
+        self.assertEqual(remaining(self.low, three, [0], [False]), ((0, 0, 0), (1, 1, 1)))
+        self.assertEqual(fewest_tries(self.low, three), 2)
 
 
 if __name__ == "__main__":

@@ -80,6 +80,21 @@ FUNCTIONS = {
     "building": ["shortfall(season)", "wanting_lot(season)", "mending(season)"],
     "freeing": ["least_tight_lots(season)", "freeing(season)"],
     "loosening": ["loosenings(season)", "loosening_count(season)"],
+    "sparing": ["closable(season)", "cleanable(season, setting)"],
+    "chances": ["share(season, setting, wish)", "chance(season, setting, wish, hours)"],
+    "daybooks": ["perform(book, program)"],
+    "seasonnotes": ["format_season(season)", "parse_season(text)"],
+    "walknotes": ["format_setting(setting)", "parse_setting(valley, text)", "format_turns(turns)",
+                  "parse_turns(valley, text)"],
+    "longnotes": ["format_history(history)", "parse_history(valley, text)", "format_plan(plan)",
+                  "parse_plan(valley, text)"],
+    "rounds": ["safe_rounds(season, setting, *, hands=None)", "are_rounds(season, setting, rounds, *, hands=None)",
+               "fewest_rounds(season, one, two, *, hands=None)", "first_rounds(season, one, two, *, hands=None)"],
+    "catches": ["tried(season, setting, tries)"],
+    "telling": ["telling_tries(season, one, two)", "alike_groups(season)", "is_alike_table(season, table)"],
+    "groping": ["remaining(season, candidates, tries, answers)", "follow_groping(season, plan, candidates, setting)",
+                "is_groping_plan(season, candidates, plan)", "fewest_tries(season, candidates)",
+                "groping_plan(season, candidates)"],
 }
 METHODS = {
     ("valleys", "Valley"): ["__init__(self, mills, sluices=())", "touching(self, mill)", "other(self, sluice, mill)",
@@ -92,6 +107,8 @@ METHODS = {
     ("calendars", "Calendar"): ["__init__(self, seasons, follows)", "yearly(seasons)"],
     ("habits", "Habit"): ["__init__(self, moves)", "after(self, state, sluice)", "state_after(self, turns)"],
     ("watches", "Watch"): ["__init__(self, rule, reports, *, turns=None)"],
+    ("daybooks", "Daybook"): ["__init__(self, season, setting)", "enter(self, deed)", "undo(self)"],
+    ("daybooks", "Trial"): ["__init__(self, book)"],
 }
 OTHERS = {
     ("valleys", "Valley"): ["parts", "__add__", "__len__", "__iter__", "__eq__"],
@@ -105,6 +122,8 @@ OTHERS = {
     ("habits", "Habit"): ["__eq__"],
     ("watches", "Watch"): ["__add__", "__len__", "__iter__", "__eq__"],
     ("verdicts", "Verdict"): [],
+    ("daybooks", "Daybook"): ["__len__", "__iter__"],
+    ("daybooks", "Trial"): ["__enter__", "__exit__"],
 }
 GENERATORS = ("settings", "running", "classes", "least_rests", "fatal_jams")
 

@@ -12,12 +12,16 @@ FILES = sorted(FOLDER.glob("*.py"))
 # Parameters that have objects with a `__call__` as their values.
 CALLED_OBJECTS = {"plan"}
 
+# What may be imported from elsewhere.
+LIBRARY = {"heapq": {"heappush", "heappop"}, "math": {"gcd"}}
+
 BUILTINS = set(("len range enumerate zip min max sum abs sorted reversed int str bool bytes list tuple dict set isinstance "
                 "ord repr any all divmod iter super property staticmethod ValueError").split())
 BUILTIN_METHODS = set(("append bit_length clear copy count endswith extend find get index insert items join keys pop replace "
                        "reverse setdefault split startswith strip update values").split())
 STATEMENTS = (ast.FunctionDef, ast.ClassDef, ast.Return, ast.Assign, ast.AugAssign, ast.For, ast.While, ast.If,
-              ast.Raise, ast.Expr, ast.Pass, ast.Break, ast.Continue, ast.ImportFrom, ast.Assert, ast.Delete)
+              ast.Raise, ast.Expr, ast.Pass, ast.Break, ast.Continue, ast.ImportFrom, ast.Assert, ast.Delete,
+              ast.Try, ast.With)
 BARRED_NAMES = set(("register mro elements open input law version_info with_traceback add_note attrgetter breakpoint "
                     "compile copyright credits delattr dir eval exec exit gc globals hasattr help id license locals "
                     "os quit setattr sys type vars").split())
@@ -87,8 +91,8 @@ class LanguageTest(unittest.TestCase):
 
     def test_imports_name_the_file_that_defines_the_name(self):
         for where, node in self.each(ast.ImportFrom):
-            if node.module == "heapq":
-                self.assertTrue({alias.name for alias in node.names} <= {"heappush", "heappop"}, where)
+            if node.module in LIBRARY:
+                self.assertTrue({alias.name for alias in node.names} <= LIBRARY[node.module], where)
                 continue
             self.assertEqual((node.module.split(".")[0], node.level), (PACKAGE, 0), where)
             source = self.trees[node.module.split(".")[1]]
@@ -98,7 +102,7 @@ class LanguageTest(unittest.TestCase):
 
     def test_no_circle_of_imports(self):
         needs = {stem: {node.module.split(".")[1] for node in ast.walk(tree)
-                        if isinstance(node, ast.ImportFrom) and node.module != "heapq"}
+                        if isinstance(node, ast.ImportFrom) and node.module not in LIBRARY}
                  for stem, tree in self.trees.items()}
         while needs:
             free = [stem for stem, others in needs.items() if not others & set(needs)]
@@ -178,6 +182,20 @@ class LanguageTest(unittest.TestCase):
                 self.assertEqual(set(assigned(function)) & set(comprehended(function)) - {"_"}, set(), where)
                 self.assertFalse(function.name in dir(builtins), where)
                 self.assertFalse(function.name in BARRED_NAMES, where)
+
+    def test_only_own_errors_are_caught(self):
+        own = {node.name for node in self.trees["errors"].body if isinstance(node, ast.ClassDef)}
+        for where, node in self.each(ast.ExceptHandler):
+            self.assertTrue(isinstance(node.type, ast.Name) and node.type.id in own and node.name is None, where)
+        for where, node in self.each(ast.Try):
+            self.assertEqual(node.finalbody, [], where)
+
+    def test_blocks_end_by_plain_assignments_alone(self):
+        for where, node in self.each(ast.FunctionDef):
+            if node.name == "__exit__":
+                self.assertEqual([arg.arg for arg in node.args.args], ["self", "kind", "value", "trace"], where)
+                for row in node.body:
+                    self.assertTrue(isinstance(row, ast.Assign) and isinstance(row.value, ast.Attribute), where)
 
     def test_underscore_is_not_read(self):
         for where, node in self.each(ast.Name):
