@@ -91,21 +91,20 @@ def find_plan(season, wish, setting, *, most):
     field = Field(season.valley)
     ground = field.runners(season)
     goal = field.runners(wish)
-    crowds = {}
     rows = {}
-    stack = [(start, ())]
+    # A place has a setting, the jams that are known there, and the sluices that have moved on the way to it.
+    stack = [(start, (), ())]
     while stack:
-        place = stack.pop()
-        present, known = place
-        free = [sluice for sluice in season.unset if sluice not in known]
-        if known not in crowds:
-            crowds[known] = field.rings(goal, ground, free)
-        if not field.has(crowds[known][-1], present):
+        present, known, moved = stack.pop()
+        free = [number for number in season.unset if number not in known]
+        rings = field.rings(goal, ground, free)
+        if not field.has(rings[-1], present):
             return None
-        if place not in rows and not field.has(crowds[known][0], present):
-            tried = field.nearer(crowds[known], free, present)
-            rows[place] = tried
-            stack.append((turned(present, (tried,)), known))
-            if len(known) < most:
-                stack.append((present, distinct([*known, tried])))
-    return Plan([(*row, number) for row, number in rows.items()])
+        for sluice in field.way(rings, free, present):
+            rows[(present, known)] = sluice
+            # A sluice that has moved is not jammed; so the way back to the beginning stays open.
+            if sluice not in moved and len(known) < most:
+                stack.append((present, distinct([*known, sluice]), moved))
+            present = turned(present, (sluice,))
+            moved = (*moved, sluice)
+    return Plan([(*place, tried) for place, tried in rows.items()])

@@ -7,8 +7,8 @@ from millsluices.errors import EndlessPlan, NotRunning, SluiceError, ValleysDiff
 from millsluices.plans import Plan, find_plan, follow_plan, is_plan
 from millsluices.seasons import Season
 from millsluices.valleys import Valley
-from plain import (all_lots, all_running, dense_seasons, flip, jammed_ball, only_tuples, random_seasons, random_wishes,
-                   runs, same_as, unset_sluices)
+from plain import (all_lots, all_running, counts, dense_seasons, flip, jammed_ball, only_tuples, random_seasons,
+                   random_wishes, runs, same_as, unset_sluices)
 
 RING = Valley.ring(3)
 WIDE = Season(RING.built([(0, 1)]), needs=[1, 1, 1])
@@ -195,6 +195,67 @@ class FindPlanTest(unittest.TestCase):
                             verdicts.append(plain_is_plan(season, wish, setting, rows, most))
                             same_as(self, is_plan(season, wish, setting, Plan(rows), most=most), verdicts[-1])
         self.assertEqual((set(found), set(verdicts)), ({True, False}, {True, False}))
+
+    def test_sluices_that_have_moved_are_not_jammed(self):
+        # Mill 4 wants a sluice; three ways lead there from mill 0, which has one sluice to spare.
+        valley = Valley(5, ((0, 1), (0, 2), (0, 3), (1, 4), (2, 4), (3, 4)))
+        season = Season(valley, needs=(2, 1, 1, 1, 0))
+        wish = Season(valley, needs=(0, 0, 0, 0, 1))
+        start = (0, 0, 0, 0, 0, 0)
+        for most in (0, 1, 2):
+            plan = find_plan(season, wish, start, most=most)
+            self.assertIs(is_plan(season, wish, start, plan, most=most), True)
+            self.assertTrue(plain_is_plan(season, wish, start, plan.rows, most))
+        for most in (3, 4, 10):
+            self.assertIsNone(find_plan(season, wish, start, most=most))
+
+    def test_rows_that_try_a_sluice_again_which_has_moved(self):
+        valley = Valley(5, ((0, 1), (0, 2), (0, 3), (1, 4), (2, 4), (3, 4)))
+        season = Season(valley, needs=(2, 1, 1, 1, 0))
+        wish = Season(valley, needs=(0, 0, 0, 0, 1))
+        one, two, three, four = (0,) * 6, (1, 0, 0, 0, 0, 0), (0, 1, 0, 0, 0, 0), (0, 0, 1, 0, 0, 0)
+        rows = [(one, (), 0), (two, (), 3), (two, (3,), 0), (one, (0,), 1), (one, (3,), 1), (three, (0,), 4),
+                (three, (3,), 4), (three, (0, 4), 1), (three, (3, 4), 1), (one, (0, 4), 2), (one, (3, 4), 2),
+                (one, (0, 1), 2), (one, (1, 3), 2), (four, (0, 4), 5), (four, (3, 4), 5), (four, (0, 1), 5),
+                (four, (1, 3), 5)]
+        self.assertIs(is_plan(season, wish, one, Plan(rows), most=2), True)
+        self.assertIs(is_plan(season, wish, one, Plan(rows), most=3), False)
+        for index in range(len(rows)):
+            self.assertIs(is_plan(season, wish, one, Plan(rows[:index] + rows[index + 1:]), most=2), False)
+
+    def test_several_ways_against_plain_search(self):
+        rng = random.Random(5)
+        found = {most: set() for most in range(4)}
+        for _ in range(150):
+            season, wish, setting = self.several_ways(rng)
+            for most in range(4):
+                jams = jams_up_to(season, most)
+                good = all(any(runs(wish, after) for after in jammed_ball(season, setting, jam)) for jam in jams)
+                plan = find_plan(season, wish, setting, most=most)
+                self.assertEqual(plan is not None, good)
+                found[most].add(good)
+                if good:
+                    self.assertIs(is_plan(season, wish, setting, plan, most=most), True)
+                    self.assertTrue(plain_is_plan(season, wish, setting, plan.rows, most))
+        self.assertEqual(list(found.values()), [{True, False}] * 4)
+
+    def several_ways(self, rng):
+        """A season in which rows of sluices lead from mill 0 to mill 1, a wish for mill 1, and a setting."""
+        pairs, mills = [], 2
+        for length in rng.choice(((2, 2, 2), (2, 2, 2), (2, 2, 1), (2, 2, 3), (1, 1, 2, 2), (3, 2))):
+            way = [0, *range(mills, mills + length - 1), 1]
+            pairs += list(zip(way, way[1:]))
+            mills += length - 1
+        rng.shuffle(pairs)
+        valley = Valley(mills, pairs)
+        setting = tuple(1 if rng.random() < 0.1 else 0 for _ in pairs)
+        base = counts(valley, setting)
+        needs = [max(0, base[0] - rng.choice((1, 1, 1, 2))), 0]
+        needs += [max(0, count - rng.choice((0, 0, 0, 0, 1))) for count in base[2:]]
+        limits = [None if rng.random() < 0.9 else count + 1 for count in base]
+        season = Season(valley, needs=needs, limits=limits)
+        wanted = base[1] + (1 if rng.random() < 0.9 else 2)
+        return season, Season(valley, needs=[0, wanted] + [0] * (mills - 2)), setting
 
     def mutants(self, rng, season, rows):
         """The rows in another order, with one row less, and with other sluices."""
