@@ -38,7 +38,10 @@ class Daybook:
         """Take the last deed back."""
         if len(self.deeds) == 0:
             raise NothingToUndo()
-        self.season, self.setting, self.jam = self.past[-1]
+        season, setting, jam = self.past[-1]
+        self.season = season
+        self.setting = setting
+        self.jam = jam
         self.past = self.past[:-1]
         self.deeds = self.deeds[:-1]
 
@@ -46,7 +49,7 @@ class Daybook:
 def as_kept(deed):
     """Return the deed with tuples for all sequences."""
     word, what = deed
-    return word, tuple(what) if word in ("walk", "go", "jam", "clear") else what
+    return (word, tuple(what)) if word in ("walk", "go", "jam", "clear") else (word, what)
 
 
 def after_deed(book, deed):

@@ -1,7 +1,7 @@
 """Freeing: new sluices with which every walk is possible."""
 
 from millsluices.building import check_open, other_mill
-from millsluices.tightness import least_tight_below, some_running
+from millsluices.tightness import least_tight_below
 
 
 def holds_another(lot, lots):
@@ -12,13 +12,11 @@ def holds_another(lot, lots):
 def least_tight_lots(season):
     """Return the least lots that are tight below and touched by an unset sluice, ordered by their least mills."""
     check_open(season)
-    some_running(season)
     touched = [mill for sluice in season.unset for mill in season.valley.sluices[sluice]]
     found = [least_tight_below(season, mill) for mill in range(season.valley.mills)]
     lots = {lot: True for lot in found if lot is not None}
-    # Two least lots have no mill in common, so that their order by tuples is that by their least mills.
-    return tuple([lot for lot in sorted(list(lots)) if not holds_another(lot, lots)
-                  and any([mill in touched for mill in lot])])
+    # A least lot is found first for the least of its mills, so that the lots stand in order.
+    return tuple([lot for lot in lots if not holds_another(lot, lots) and any([mill in touched for mill in lot])])
 
 
 def freeing(season):

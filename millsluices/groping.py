@@ -97,17 +97,17 @@ class Search:
         self.field = Field(season.valley)
         self.ground = self.field.runners(season)
         self.moving = [[self.moved(setting, sluice) for sluice in range(self.field.size)] for setting in candidates]
-        self.whole = tuple(range(len(candidates)))
-        self.splits = {(): []}
-        self.left = {(): [self.field.whole]}
+        self.splits = {}
+        self.left = {}
         numbers = alike_numbers(season)
-        # Smaller parts come first.
-        for part in subsets(self.whole):
-            if len(part) > 0:
-                told = are_alike(numbers, [candidates[place] for place in part])
-                self.splits[part] = [] if told else self.all_splits(part)
-                self.left[part] = [self.field.whole if told else 0]
-                self.fill(part)
+        places = tuple(range(len(candidates)))
+        self.places = places
+        # Smaller parts come first, and the part without candidates is told.
+        for part in subsets(places):
+            told = are_alike(numbers, [candidates[place] for place in part])
+            self.splits[part] = [] if told else self.all_splits(part)
+            self.left[part] = [self.field.whole if told else 0]
+            self.fill(part)
 
     def moved(self, setting, sluice):
         """Return the crowd of the turned sluices after which a try of the sluice moves it, from the candidate on."""
@@ -177,14 +177,14 @@ class Search:
 def fewest_tries(season, candidates):
     """Return the least number of tries with which a plan finds out which of the candidates is the present setting."""
     search = Search(season, checked_candidates(season, candidates))
-    return search.tries(search.whole, (0,) * len(season.valley))
+    return search.tries(search.places, (0,) * len(season.valley))
 
 
 def groping_plan(season, candidates):
     """Return a plan that finds out, with as few tries as possible, which of the candidates is the present setting."""
     search = Search(season, checked_candidates(season, candidates))
     rows = {}
-    stack = [(search.whole, (0,) * len(season.valley))]
+    stack = [(search.places, (0,) * len(season.valley))]
     while stack:
         part, moves = stack.pop()
         split = search.best(part, moves)

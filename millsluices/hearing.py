@@ -38,7 +38,8 @@ def blind_pair(watch, day, lot, claim):
 def fewest_heard(watch, day, claim):
     """Return the first lot, in the order by size, that tells whether the claim is right, or None."""
     sounds = heard(watch, day, claim)
-    for lot in subsets(tuple(range(claim.valley.mills))):
+    mills = tuple(range(claim.valley.mills))
+    for lot in subsets(mills):
         if told_apart(sounds, lot) is None:
             return lot
     return None

@@ -21,13 +21,13 @@ def loosened_mills(season, counts, links, knot):
     """Return the mills of the knot whose needs must be lowered, and those whose limits must be raised."""
     needy_below = lacks(knot, links, with_spare(season, counts))
     needy_above = lacks(knot, backward(links), with_room(season, counts))
-    touched = [mill for link in links for mill in link[:2]]
-    rigid = [mill for mill in season.rigid if mill in knot and mill in touched]
+    rigid = [mill for mill in season.rigid if mill in knot]
     if len(rigid) > 0:
         # If the knot is needy from both sides, then all its mills are rigid, and it has two of them at least.
-        return (rigid[:1], rigid[1:]) if needy_below else ([], rigid)
-    lowered = [mill for mill in knot if season.needs[mill] > 0][:1] if needy_below else []
-    raised = list(knot[:1]) if needy_above else []
+        return (rigid[:1], rigid[1:]) if needy_below else ((), rigid)
+    # A sluice feeds each mill of a knot that is needy from below, so that its need can be lowered.
+    lowered = knot[:1] if needy_below else ()
+    raised = knot[:1] if needy_above else ()
     return lowered, raised
 
 
@@ -38,6 +38,7 @@ def loosenings(season):
     links = arcs(season.valley, setting, season.unset)
     lowered = []
     raised = []
+    # All mills of these knots are touched by unset sluices.
     for knot in distinct([knot_of(links, mill) for link in links for mill in link[:2]]):
         lower, higher = loosened_mills(season, counts, links, knot)
         lowered.extend(lower)

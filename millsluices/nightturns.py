@@ -5,57 +5,51 @@ from millsluices.possible import Past
 from millsluices.settings import turned
 
 
-def after_night(past, least, seen):
-    """Return a list of the settings that are seen after one more night, by their least numbers of turns.
+def after_night(past, before, seen):
+    """Return a list of the settings that are seen after one more night, if at most 0, 1, 2 .. turns are made in all.
 
-    The list `least` has the same for the day before: at 0, 1, 2 .. the crowd of the settings with this least number.
+    The list `before` has the same for the day before.
     """
     reach = []
-    for total, crowd in enumerate(least):
+    for total, crowd in enumerate(before):
         for turns, ring in enumerate(past.rings(crowd)):
             if total + turns == len(reach):
                 reach.append(0)
             reach[total + turns] = reach[total + turns] | (ring & seen)
-    known = 0
-    found = []
-    for crowd in reach:
-        found.append(crowd & ~known)
-        known = known | crowd
-    return found
+    return reach
 
 
-def least_totals(past):
-    """Return for each day a list of the settings to which nights may lead, by their least numbers of turns."""
+def turn_crowds(past):
+    """Return for each day a list of the settings to which nights with at most 0, 1, 2 .. turns in all may lead."""
     found = [[past.seen[0]]]
     for seen in past.seen[1:]:
         found.append(after_night(past, found[-1], seen))
     return found
 
 
-def least_number(least):
-    """Return the least number with a setting, or None."""
-    return min([number for number, crowd in enumerate(least) if crowd != 0], default=None)
+def least_number(crowds):
+    """Return the number of the first of the crowds that has a setting, or None."""
+    return min([number for number, crowd in enumerate(crowds) if crowd != 0], default=None)
 
 
 def least_turns(watch):
     """Return the least number of turns of a history, or None."""
-    return least_number(least_totals(Past(watch))[-1])
+    return least_number(turn_crowds(Past(watch))[-1])
 
 
 def least_history(watch):
     """Return a history with the least number of turns, or None."""
     past = Past(watch)
-    totals = least_totals(past)
-    total = least_number(totals[-1])
+    days = turn_crowds(past)
+    total = least_number(days[-1])
     if total is None:
         return None
-    present = past.field.first(totals[-1][total])
+    present = past.field.first(days[-1][total])
     nights = []
-    for least in totals[:-1][::-1]:
-        # The night before made so many turns of the total that the rest is the least number of a setting near by.
+    for crowds in days[:-1][::-1]:
+        # What is not turned in the night has been turned in the nights before it.
         rings = past.rings(past.field.alone(present))
-        origins = [rings[total - rest] & crowd if 0 <= total - rest < len(rings) else 0
-                   for rest, crowd in enumerate(least)]
+        origins = [rings[min(total - rest, len(rings) - 1)] & crowd for rest, crowd in enumerate(crowds[:total + 1])]
         total = least_number(origins)
         nights.insert(0, past.way(present, origins[total])[::-1])
         present = turned(present, nights[0])
@@ -100,6 +94,6 @@ def never_turned(watch):
     nights = [(past.rings(before), past.rings(after)) for before, after in zip(past.begun(), past.ended()[1:])]
     found = []
     for sluice in range(past.field.size):
-        if sluice not in past.movable or not any([turning(past, near, far, sluice) for near, far in nights]):
+        if not any([turning(past, near, far, sluice) for near, far in nights]):
             found.append(sluice)
     return tuple(found)

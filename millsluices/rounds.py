@@ -63,7 +63,7 @@ def rounds_left(field, crowds, goal):
             reach = reach | moved
         found.append(reach & ~known)
         known = known | reach
-    return found[:-1]
+    return found
 
 
 def fewest_rounds(season, one, two, *, hands=None):

@@ -3,6 +3,7 @@
 from millsluices.classes import class_season
 from millsluices.running import obstacle
 from millsluices.seasons import Season
+from millsluices.settings import feeds
 
 
 def closable(season):
@@ -10,16 +11,15 @@ def closable(season):
     return tuple([sluice for sluice in range(len(season.valley)) if obstacle(season.without((sluice,))) is None])
 
 
-def spared(season, sluice, side):
-    """Return the season in which the sluice has the side, but what it feeds could do without it."""
-    gaining = season.valley.sluices[sluice][side]
-    needs = [need + 1 if mill == gaining else need for mill, need in enumerate(season.needs)]
-    sides = [(side,) if number == sluice else let for number, let in enumerate(season.sides)]
-    return Season(season.valley, needs=needs, limits=season.limits, sides=sides)
+def needier(season, mill):
+    """Return the season in which the mill needs one sluice more."""
+    needs = [need + 1 if number == mill else need for number, need in enumerate(season.needs)]
+    return Season(season.valley, needs=needs, limits=season.limits, sides=season.sides)
 
 
 def cleanable(season, setting):
     """Return the sluices that can be closed for a while, after a walk from the setting."""
     members = class_season(season, setting)
-    return tuple([sluice for sluice, let in enumerate(members.sides)
-                  if any([obstacle(spared(members, sluice, side)) is None for side in let])])
+    # A walk that turns a sluice takes it from a mill with a spare; one that is stuck must feed such a mill.
+    return tuple([sluice for sluice in range(len(season.valley))
+                  if obstacle(needier(members, feeds(season.valley, setting, sluice))) is None])

@@ -62,7 +62,8 @@ def fewest_waits(season, setting, rows):
         return None
     whole = tuple([len(turns) for turns in rows])
     good = safe_positions(season, setting, rows)
-    for waits in subsets(all_waits(whole)):
+    possible = all_waits(whole)
+    for waits in subsets(possible):
         if secured(good, whole, waits):
             return waits
     return None

@@ -80,6 +80,16 @@ class NightTurnsTest(unittest.TestCase):
         self.assertEqual((least_turns(watch), surely_turned(watch)), (4, (0, 2)))
         self.assertTrue(plain_is_history(watch, least_history(watch)))
 
+    def test_the_nearest_setting_is_not_always_on_the_way(self):
+        # On day 1 mill 1 is fed: by sluice 3 after one turn, or by sluice 1 after two turns, on the way to day 2.
+        rule = Season(Valley(4, [(2, 3), (0, 1), (2, 0), (2, 1)]), needs=[1, 0, 0, 0])
+        watch = Watch(rule, [Season.only(rule.valley, (0, 0, 0, 0)), Season(rule.valley, needs=[0, 1, 0, 0]),
+                             Season.only(rule.valley, (1, 1, 1, 0))])
+        self.assertEqual((least_turns(watch), surely_turned(watch)), (3, (0, 1, 2)))
+        history = least_history(watch)
+        self.assertTrue(plain_is_history(watch, history))
+        self.assertEqual([len(night) for night in history[1]], [2, 1])
+
     def test_set_sluices_are_never_turned(self):
         season = Season(Valley(2, [(0, 1), (0, 1)]), sides=[(0, 1), (1,)])
         watch = Watch(season, [Season(season.valley)] * 2)

@@ -90,8 +90,11 @@ class PossibleTest(unittest.TestCase):
                                        Season.only(valley, (1,) * 10)], turns=2)
         for day in range(6):
             self.assertEqual({sum(setting) for setting in possible(watch, day)}, {2 * day})
-        history = history_through(watch, 3, (1,) * 6 + (0,) * 4)
-        self.assertIs(is_history(watch, history), True)
+        for day in range(6):
+            setting = (1,) * (2 * day) + (0,) * (10 - 2 * day)
+            history = history_through(watch, day, setting)
+            self.assertIs(is_history(watch, history), True)
+            self.assertEqual(day_settings(history)[day], setting)
 
 
 if __name__ == "__main__":

@@ -86,6 +86,24 @@ class TellingTest(unittest.TestCase):
         self.assertIs(is_alike_table(FULL, [((0, 1, 1), ZERO)]), False)
         self.assertIs(is_alike_table(FULL, [(ZERO, (0, 1, 1))]), False)
 
+    def test_settings_that_do_not_run_in_tables(self):
+        # No turn of the second setting leads to one that runs, either.
+        four = Season(Valley.ring(4), needs=[1] * 4)
+        lone, far = (0, 0, 0, 0), (0, 0, 1, 1)
+        self.assertIs(is_alike_table(four, [(lone, (1, 1, 1, 1))]), True)
+        for table in ([(lone, far)], [(far, lone)], [(far, far)]):
+            self.assertIs(is_alike_table(four, table), False)
+
+    def test_answers_that_differ_in_tables(self):
+        # No turn of the first setting is a walk; sluice 2 can be turned in the others.
+        season = Season(Valley(4, [(2, 3), (1, 3), (2, 1)]), needs=[0, 1, 0, 1], limits=[None, None, None, 1])
+        still, first, second = (0, 1, 1), (1, 0, 0), (1, 0, 1)
+        self.assertEqual(all_running(season), [still, first, second])
+        self.assertIs(is_alike_table(season, [(still, still)]), True)
+        for other in (first, second):
+            self.assertIs(is_alike_table(season, [(still, other)]), False)
+            self.assertIs(is_alike_table(season, [(other, still)]), False)
+
     def test_pairs_of_a_table_have_an_order(self):
         free = Season(Valley.row(2))
         self.assertIs(is_alike_table(free, [((0,), (1,)), ((1,), (0,))]), True)
