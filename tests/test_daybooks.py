@@ -379,7 +379,8 @@ class PerformTest(unittest.TestCase):
 
     def test_undo_in_a_trial(self):
         book = Daybook(LOW, ZERO)
-        result = perform(book, [("turn", 2), ("trial", [("undo",), ("turn", 2), ("turn", 0), ("turn", 2)]), ("turn", 0)])
+        trial = ("trial", [("undo",), ("turn", 2), ("turn", 0), ("turn", 2)])
+        result = perform(book, [("turn", 2), trial, ("turn", 0)])
         self.assertEqual(result, ("done", ("done", "done", "done", "WouldStop"), "done"))
         self.assertEqual((book.setting, book.deeds), ((1, 0, 1), (("turn", 2), ("turn", 0))))
 

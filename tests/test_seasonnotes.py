@@ -42,7 +42,8 @@ class SeasonNotesTest(unittest.TestCase):
 
     def test_the_first_line(self):
         for text in ("", "\n", "mills", "mills ", "mills 0", "mills 25", "mills 03", "mills +3", "mills -3", "mills 3 ",
-                     " mills 3", "mills  3", "mills 3 3", "mill 3", "Mills 3", "MILLS 3", "sluice 0 1", "3", "mills three",
+                     " mills 3", "mills  3", "mills 3 3", "mill 3", "Mills 3", "MILLS 3", "sluice 0 1", "3",
+                     "mills three",
                      "mills 3.0", "mills 1_0", "mills 0x3", "mills\t3", "mills 3\r", "mills " + "9" * 40,
                      "mills 1" + "0" * 39, "need 0 1", "\nmills 3"):
             self.bad(0, text)
@@ -61,7 +62,8 @@ class SeasonNotesTest(unittest.TestCase):
         self.bad(0, "mills \u22123")
 
     def test_sluices(self):
-        for line in ("sluice", "sluice 0", "sluice 0 3", "sluice 3 0", "sluice 1 1", "sluice 0 1 side", "sluice 0 1 side 2",
+        for line in ("sluice", "sluice 0", "sluice 0 3", "sluice 3 0", "sluice 1 1", "sluice 0 1 side",
+                     "sluice 0 1 side 2",
                      "sluice 0 1 side 00", "sluice 0 1 side 01", "sluice 0 1 side None", "sluice 0 1 side both",
                      "sluice 0 1 side 0 1", "sluice 0 1 0", "sluice 0 1 sides 0", "sluice 0 1 side  0", "sluice 0 1 ",
                      " sluice 0 1", "sluice  0 1", "sluice 00 1", "sluice 0 01", "sluice +0 1", "sluice 0 -1",
@@ -79,8 +81,9 @@ class SeasonNotesTest(unittest.TestCase):
 
     def test_needs_and_limits(self):
         for word in ("need", "limit"):
-            for line in (word, f"{word} 0", f"{word} 0 01", f"{word} 0 -1", f"{word} 0 +1", f"{word} 3 1", f"{word} 0 1 1",
-                         f"{word} 0  1", f"{word} 0 1 ", f" {word} 0 1", f"{word} 00 1", f"{word}s 0 1", f"{word} 0 None",
+            for line in (word, f"{word} 0", f"{word} 0 01", f"{word} 0 -1", f"{word} 0 +1", f"{word} 3 1",
+                         f"{word} 0 1 1", f"{word} 0  1", f"{word} 0 1 ", f" {word} 0 1", f"{word} 00 1",
+                         f"{word}s 0 1", f"{word} 0 None",
                          f"{word} 0 none", f"{word} -1 1", f"{word} 0 1.0", f"{word} 0 ", f"{word}  1", f"{word} 0 1,2",
                          word.upper() + " 0 1", ""):
                 self.bad(1, f"mills 3\n{line}")
@@ -142,7 +145,7 @@ class SeasonNotesTest(unittest.TestCase):
             else:
                 good += 1
                 self.assertEqual(format_season(found), text)
-        self.assertTrue(20 < good < 180)
+        self.assertTrue(20 < good < 180, good)
 
 
 if __name__ == "__main__":

@@ -125,7 +125,8 @@ class TogetherTest(unittest.TestCase):
     def test_what_no_walk_turns(self):
         for season, one, _ in self.draws():
             members = within(season, one)
-            turned = {sluice for sluice in range(len(season.valley)) for other in members if other[sluice] != one[sluice]}
+            turned = {sluice for sluice in range(len(season.valley))
+                      for other in members if other[sluice] != one[sluice]}
             self.assertEqual(loose(season, one), tuple(sorted(turned)))
             self.assertTrue(set(turnable(season, one)) <= turned)
             self.assertIs(is_blockade(season, one, (), ()), True)
