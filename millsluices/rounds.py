@@ -19,8 +19,9 @@ def safe_crowds(field, season, hands):
             if (len(row) == 0 or sluice > row[-1]) and (hands is None or len(row) < hands):
                 crowd = crowds[row] & field.swapped(crowds[row], sluice)
                 if crowd != 0:
-                    crowds[(*row, sluice)] = crowd
-                    queue.append((*row, sluice))
+                    longer = (*row, sluice)
+                    crowds[longer] = crowd
+                    queue.append(longer)
         at += 1
     del crowds[()]
     return crowds

@@ -150,6 +150,15 @@ class LanguageTest(unittest.TestCase):
                 self.assertTrue(any(isinstance(side, ast.Constant) and side.value in (None, True, False)
                                     for side in (node.left, *node.comparators)), where)
 
+    def test_no_star_in_an_index(self):
+        for where, node in self.each(ast.Subscript):
+            self.assertFalse(any(isinstance(item, ast.Starred) for item in ast.walk(node.slice)), where)
+
+    def test_exponents(self):
+        for where, node in self.each(ast.BinOp):
+            if isinstance(node.op, ast.Pow):
+                self.assertTrue(isinstance(node.right, ast.Constant) and node.right.value in range(65), where)
+
     def test_decorators_and_annotations(self):
         for where, node in self.each(ast.FunctionDef):
             self.assertTrue(all(isinstance(word, ast.Name) and word.id in ("property", "staticmethod")
