@@ -1,6 +1,7 @@
 """Notes of seasons."""
 
 from millsluices.errors import BadNote
+from millsluices.numerals import numeral
 from millsluices.seasons import Season
 from millsluices.valleys import Valley
 from millsluices.walknotes import number_in, numbers_in
@@ -22,8 +23,8 @@ def format_season(season):
     return "\n".join([
         f"mills {season.valley.mills}",
         *[written_sluice(pair, let) for pair, let in zip(season.valley.sluices, season.sides)],
-        *[f"need {mill} {need}" for mill, need in enumerate(season.needs) if need > 0],
-        *[f"limit {mill} {limit}" for mill, limit in enumerate(season.limits) if limit is not None],
+        *[f"need {mill} {numeral(need)}" for mill, need in enumerate(season.needs) if need > 0],
+        *[f"limit {mill} {numeral(limit)}" for mill, limit in enumerate(season.limits) if limit is not None],
     ])
 
 

@@ -1,6 +1,7 @@
 """Notes of settings and of turns."""
 
 from millsluices.errors import BadNote
+from millsluices.numerals import worth
 
 DIGITS = "0123456789"
 SIDES = "01"
@@ -13,7 +14,7 @@ def number_in(word, end):
     """
     if len(word) == 0 or not all([letter in DIGITS for letter in word]) or (word[0] == "0" and word != "0"):
         return None
-    number = int(word)
+    number = worth(word)
     return number if end is None or number < end else None
 
 

@@ -18,7 +18,7 @@ LIBRARY = {"heapq": {"heappush", "heappop"}, "math": {"gcd"}}
 BUILTINS = set(("len range enumerate zip min max sum abs sorted reversed int str bool bytes list tuple dict set isinstance "
                 "ord repr any all divmod iter super property staticmethod ValueError").split())
 BUILTIN_METHODS = set(("append bit_length clear copy count endswith extend find get index insert items join keys pop replace "
-                       "reverse setdefault split startswith strip update values").split())
+                       "reverse setdefault split startswith strip update values zfill").split())
 STATEMENTS = (ast.FunctionDef, ast.ClassDef, ast.Return, ast.Assign, ast.AugAssign, ast.For, ast.While, ast.If,
               ast.Raise, ast.Expr, ast.Pass, ast.Break, ast.Continue, ast.ImportFrom, ast.Assert, ast.Delete,
               ast.Try, ast.With)

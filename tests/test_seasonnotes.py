@@ -40,6 +40,17 @@ class SeasonNotesTest(unittest.TestCase):
         self.assertEqual((format_season(season), parse_season(note)), (note, season))
         self.assertEqual(parse_season("mills 1\nneed 0 " + "9" * 40).needs, (10 ** 40 - 1,))
 
+    def test_numbers_that_python_puts_into_no_text_at_once(self):
+        for size in (4299, 4300, 4301, 9000):
+            zeros = "0" * size
+            season = Season(Valley(3), needs=[10 ** size, 0, 10 ** size + 6], limits=[10 ** size, None, 0])
+            note = f"mills 3\nneed 0 1{zeros}\nneed 2 1{zeros[1:]}6\nlimit 0 1{zeros}\nlimit 2 0"
+            # The notes are too long to be shown where they differ.
+            self.assertTrue(format_season(season) == note, size)
+            self.assertTrue(parse_season(note) == season, size)
+        self.bad(1, "mills 3\nneed 1" + "0" * 5000 + " 1")
+        self.bad(2, "mills 3\nneed 0 1" + "0" * 5000 + "\nneed 1 0" + "1" * 5000)
+
     def test_the_first_line(self):
         for text in ("", "\n", "mills", "mills ", "mills 0", "mills 25", "mills 03", "mills +3", "mills -3", "mills 3 ",
                      " mills 3", "mills  3", "mills 3 3", "mill 3", "Mills 3", "MILLS 3", "sluice 0 1", "3",
